@@ -272,3 +272,22 @@ func FuzzModule(f *testing.F) {
 		}
 	})
 }
+
+// TestAnything checks P1 and P2 on trees that need not be well-formed.
+func TestAnything(t *testing.T) {
+	m := sample.Maker{Pick: sample.Source(9)}
+	for i := range 3000 {
+		n := m.Wild(3)
+		if i%2 == 0 {
+			n = m.Broken(3)
+		}
+		s, e := Text(n)
+		again, f := Text(n)
+		if s != again || e != f || e != api.OK && s != "" || Parses(n) != (e == api.OK || e == api.ErrLarge) {
+			t.Fatalf("%v: %q, error %d", n, s, e)
+		}
+		if c := syntax.Check(n); c != api.OK && e != c {
+			t.Fatalf("%v: error %d, Check %d", n, e, c)
+		}
+	}
+}

@@ -5,6 +5,7 @@ import (
 	"testing"
 
 	"hackamore/api"
+	"hackamore/internal/sample"
 )
 
 func typ(name string) api.Type { return named(name, api.Val) }
@@ -184,6 +185,42 @@ func TestEqual(t *testing.T) {
 		change(&p[0], &p[0].Methods[0])
 		if Equal(p, full()) || Equal(full(), p) {
 			t.Errorf("change %d is not seen", i)
+		}
+	}
+}
+
+// TestCheckAnything checks P1 and P2 on programs by chance.
+func TestCheckAnything(t *testing.T) {
+	pick := sample.Source(12)
+	var anyType func(depth int) api.Type
+	anyType = func(depth int) api.Type {
+		x := api.Type{Kind: pick(9) - 1, Name: []string{"", "A", "U8"}[pick(3)], Cap: pick(13) - 1, Mark: pick(4) - 1}
+		for depth > 0 && pick(2) == 0 {
+			x.Args = append(x.Args, anyType(depth-1))
+		}
+		return x
+	}
+	var anyExpr func(depth int) api.Expr
+	anyExpr = func(depth int) api.Expr {
+		x := api.Expr{Op: pick(30) - 1, Text: []string{"", "x", "0"}[pick(3)]}
+		for pick(3) == 0 {
+			x.Types = append(x.Types, anyType(1))
+		}
+		for depth > 0 && pick(3) > 0 {
+			x.Kids = append(x.Kids, anyExpr(depth-1))
+		}
+		return x
+	}
+	for range 5000 {
+		p := changed(func(e *api.Entity, m *api.Method) {
+			m.Result, e.Fields[0].Type = anyType(2), typ("U8")
+			if pick(2) == 0 {
+				m.Result, m.Body = typ("U8"), anyExpr(2)
+			}
+		})
+		e, f := Check(p), Check(p)
+		if e != f || e != api.OK && e != api.ErrForm || !Equal(p, p) {
+			t.Fatalf("%v: errors %d %d", p, e, f)
 		}
 	}
 }

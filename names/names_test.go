@@ -578,3 +578,42 @@ func TestRenamed(t *testing.T) {
 		t.Errorf("errors %d %d\n%s\n%s", e, f, entityText(p[builtins]), entityText(q[builtins]))
 	}
 }
+
+// TestAnything checks P1 and P2 on trees that need not be well-formed, or plain.
+func TestAnything(t *testing.T) {
+	m := sample.Maker{Pick: sample.Source(11)}
+	for i := range 1000 {
+		n := m.Wild(3)
+		if i%2 == 0 {
+			n = m.Broken(3)
+		}
+		l := []Source{{"p", api.Node{Kind: syntax.Module}}, {[]string{"", "m", "m/n", "x.y"}[i%4], n}}
+		p, f, e := Resolve(l, nil)
+		q, g, e2 := Resolve(l, nil)
+		if !reflect.DeepEqual(p, q) || !reflect.DeepEqual(f, g) || e != e2 || e != api.OK && p != nil {
+			t.Fatalf("%v: error %d at %v", n, e, f)
+		}
+		if wrong := !sugar.IsPlain(n) || i%4 == 3; wrong != (e == api.ErrArg) || wrong && !reflect.DeepEqual(f, Fault{Source: 1}) {
+			t.Fatalf("%v: error %d at %v", n, e, f)
+		}
+	}
+}
+
+func FuzzProgram(f *testing.F) {
+	f.Add("actor Main new create(env: Env) => let x: U8 = U8(7); env.out.print(\"hi\"); this~go(1); (let a: U8, let b: U8) = (x, x) be go(a: U8, b: U8 = 2) => a.>add(b)")
+	f.Add("type T[A] is (A | this->A^ | (A, T2, p.D)) class C[A: B val] is (I & J) let x: U8 = 1 fun f(y: U8 = 2): U8 ? => (x + y) * y; {() => y }")
+	f.Fuzz(func(t *testing.T, s string) {
+		n, _, e := parser.Parse(s)
+		if e != api.OK {
+			return
+		}
+		plain, _, e := sugar.Module(n, nil)
+		if e != api.OK {
+			return
+		}
+		p, fault, e := Resolve([]Source{{"main", plain}, {"p", api.Node{Kind: syntax.Module}}}, nil)
+		if c := Check(p); e == api.OK && c != api.OK && c != api.ErrSize || e != api.OK && (p != nil || fault.Source > 1) {
+			t.Fatalf("%q: error %d at %v, Check %d", s, e, fault, c)
+		}
+	})
+}

@@ -622,3 +622,39 @@ func TestCalls(t *testing.T) {
 		}
 	}
 }
+
+// TestAnything checks P1 and P2 on arguments by chance.
+func TestAnything(t *testing.T) {
+	r := rand.New(rand.NewSource(3))
+	words := append(Types(), "Bool", "String", "", "add", "rem_partial", "shl", "clz", "f32", "u8", "nan", "neg", "min", "eq", "x")
+	anyValue := func() api.Value {
+		v := api.Value{Kind: r.Intn(28) - 2, Lo: r.Uint64() >> r.Intn(64)}
+		if r.Intn(4) == 0 {
+			v.Hi = r.Uint64()
+		}
+		if r.Intn(8) == 0 {
+			v.Name = "x"
+		}
+		return v
+	}
+	for range 20000 {
+		typ, method := words[r.Intn(len(words))], words[r.Intn(len(words))]
+		var args []api.Value
+		for range r.Intn(4) {
+			args = append(args, anyValue())
+			if i, ok := find(typ); ok && r.Intn(2) == 0 {
+				args[len(args)-1].Kind = api.ValNumber + i
+			}
+		}
+		v, raised, e := Call(typ, method, args)
+		w, raised2, e2 := Call(typ, method, args)
+		if !reflect.DeepEqual(v, w) || raised != raised2 || e != e2 || e == api.OK && !raised && Check(v) != api.OK || e != api.OK && (raised || !reflect.DeepEqual(v, api.Value{})) {
+			t.Fatalf("%s %s of %v: %v, %v, error %d", typ, method, args, v, raised, e)
+		}
+		v = anyValue()
+		s, e := Text(v)
+		if (e == api.OK) != (Check(v) == api.OK) || (e == api.OK) != (s != "") {
+			t.Fatalf("Text(%v): %q, error %d", v, s, e)
+		}
+	}
+}

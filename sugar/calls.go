@@ -129,7 +129,8 @@ func (r *rewriter) defaultValue(t *tree) (n api.Node) {
 	return n
 }
 
-func ruleCall(r *rewriter, t *tree) api.Node {
+// call rewrites a call.
+func (r *rewriter) call(t *tree) api.Node {
 	callee, args := t.kids[0], t.kids[2:]
 	switch callee.kind {
 	case syntax.Chain:
@@ -167,7 +168,7 @@ func (r *rewriter) callee(t *tree) api.Node {
 }
 
 // qualify rewrites a Qualify; one of a lower name that is no local and no field is one of this.
-func qualify(r *rewriter, t *tree) api.Node {
+func (r *rewriter) qualify(t *tree) api.Node {
 	of := t.kids[0]
 	var head api.Node
 	if of.kind == syntax.Name && !convention.Upper(of.text) && r.meaning(of.text) == isUnknown {
@@ -213,7 +214,7 @@ func (r *rewriter) chain(t *tree) api.Node {
 }
 
 // notCalled refuses a Chain or a Tilde that is no callee.
-func notCalled(_ *rewriter, t *tree) api.Node {
+func (r *rewriter) notCalled(t *tree) api.Node {
 	t.fail(ErrChain)
 	return api.Node{}
 }

@@ -14,14 +14,14 @@ func rules() [syntax.Lambda + 1]func(*rewriter, *tree) api.Node {
 	return [...]func(*rewriter, *tree) api.Node{
 		syntax.Nothing: (*rewriter).same, syntax.IntLit: (*rewriter).same, syntax.FloatLit: (*rewriter).same, syntax.StringLit: (*rewriter).same,
 		syntax.BoolLit: (*rewriter).same, syntax.Name: (*rewriter).name, syntax.This: (*rewriter).same, syntax.Seq: (*rewriter).seq,
-		syntax.Decl: (*rewriter).decl, syntax.Assign: (*rewriter).assign, syntax.Dot: (*rewriter).same, syntax.Tilde: notCalled,
-		syntax.Chain: notCalled, syntax.Call: ruleCall, syntax.Qualify: qualify, syntax.Tuple: (*rewriter).same,
+		syntax.Decl: (*rewriter).decl, syntax.Assign: (*rewriter).assign, syntax.Dot: (*rewriter).same, syntax.Tilde: (*rewriter).notCalled,
+		syntax.Chain: (*rewriter).notCalled, syntax.Call: (*rewriter).call, syntax.Qualify: (*rewriter).qualify, syntax.Tuple: (*rewriter).same,
 		syntax.Array: (*rewriter).array, syntax.Unary: (*rewriter).unary, syntax.Binary: (*rewriter).binary, syntax.As: (*rewriter).as,
 		syntax.Consume: (*rewriter).same, syntax.Recover: (*rewriter).recovered, syntax.If: (*rewriter).branches,
 		syntax.Ifdef: (*rewriter).ifdef, syntax.While: (*rewriter).branches, syntax.Repeat: (*rewriter).repeat, syntax.For: (*rewriter).loop,
 		syntax.With: (*rewriter).with, syntax.Match: (*rewriter).match, syntax.Case: (*rewriter).oneCase, syntax.Try: (*rewriter).try,
 		syntax.Error: (*rewriter).same, syntax.Return: (*rewriter).same, syntax.Break: (*rewriter).same, syntax.Continue: (*rewriter).same,
-		syntax.Object: object, syntax.Lambda: lambda,
+		syntax.Object: (*rewriter).object, syntax.Lambda: (*rewriter).lambda,
 	}
 }
 

@@ -8,12 +8,12 @@ import (
 )
 
 // object rewrites an object literal.
-func object(r *rewriter, t *tree) api.Node {
+func (r *rewriter) object(t *tree) api.Node {
 	return r.literal(t, t.kids[0].text, t.kids[1], t.kids[2:], nil)
 }
 
 // lambda rewrites a lambda as the object literal with its method.
-func lambda(r *rewriter, t *tree) api.Node {
+func (r *rewriter) lambda(t *tree) api.Node {
 	c := t.kids[0].text
 	apply := t.make(syntax.Method, "apply", wordTree(t, "fun"), wordTree(t, onlyVal(c)), t.make(syntax.Bounds, ""),
 		t.kids[1], t.kids[2], t.kids[3], t.kids[4])

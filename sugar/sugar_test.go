@@ -351,7 +351,11 @@ func TestChance(t *testing.T) {
 	codes := map[api.Errno]int{}
 	for range 3000 {
 		n := m.Module(4)
+		before := clone(n)
 		got, path, e := Module(n, []string{"a", "A"})
+		if !syntax.Equal(n, before) {
+			t.Fatal("Module changes its argument")
+		}
 		again, path2, e2 := Module(n, []string{"a", "A"})
 		if !reflect.DeepEqual(got, again) || !slices.Equal(path, path2) || e != e2 {
 			t.Fatal("Module differs from itself")
@@ -497,5 +501,24 @@ func TestIsPlain(t *testing.T) {
 	}
 	if !IsPlain(parse(t, "use \"p\" if a and not b")) || IsPlain(name("x")) {
 		t.Error("IsPlain of conditions of uses, or of a root that is no module")
+	}
+}
+
+// TestAnything checks P1 and P2 on trees that need not be well-formed.
+func TestAnything(t *testing.T) {
+	m := sample.Maker{Pick: sample.Source(10)}
+	for i := range 3000 {
+		n := m.Wild(3)
+		if i%2 == 0 {
+			n = m.Broken(3)
+		}
+		got, path, e := Module(n, nil)
+		again, path2, f := Module(n, nil)
+		if !reflect.DeepEqual(got, again) || !slices.Equal(path, path2) || e != f || e != api.OK && !reflect.DeepEqual(got, api.Node{}) {
+			t.Fatalf("%v: error %d at %v", n, e, path)
+		}
+		if c := syntax.Check(n); c != api.OK && (e != c || path != nil || IsPlain(n)) || e == api.OK && !IsPlain(got) {
+			t.Fatalf("%v: error %d at %v, Check %d", n, e, path, c)
+		}
 	}
 }

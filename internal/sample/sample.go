@@ -288,3 +288,32 @@ func (m Maker) matchCase(depth int) api.Node {
 	}
 	return node(syntax.Case, "", pattern, m.maybe(m.Expr, depth), m.Expr(depth))
 }
+
+// Wild returns a tree that need not be well-formed.
+func (m Maker) Wild(depth int) api.Node {
+	n := node(m.Pick(syntax.Last+4)-2, m.one("", "x", "A", "1", "class", "new", "\xff", "not", "p/q"))
+	if m.Pick(8) == 0 {
+		return m.Expr(depth)
+	}
+	if depth > 0 {
+		n.Kids = m.some(m.Wild, depth-1, 0, 5)
+	}
+	return n
+}
+
+// Broken returns the tree of a module in which one part was replaced by another one.
+func (m Maker) Broken(depth int) api.Node {
+	n := m.Module(depth)
+	var path []int
+	for at := n; len(at.Kids) > 0 && m.Pick(6) > 0; {
+		i := m.Pick(len(at.Kids))
+		path = append(path, i)
+		at = at.Kids[i]
+	}
+	part := m.Wild(1)
+	if m.Pick(2) == 0 {
+		part = m.Expr(2)
+	}
+	n, _ = syntax.Put(n, path, part)
+	return n
+}
