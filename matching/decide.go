@@ -1,0 +1,248 @@
+package matching
+
+import (
+	"slices"
+	"strconv"
+	"strings"
+
+	"hackamore/api"
+)
+
+// asked is what a part at a path must be of: the number of a set, and the pattern that it was made of.
+type asked struct {
+	path    []int
+	set     int
+	pattern Pattern
+}
+
+// row takes the values that have all that it asks for; paths ascend, and none leads into another one. It stands for a case.
+type row struct {
+	of    int
+	asked []asked
+}
+
+// key returns a text that rows of the same case and the same values have.
+func (r row) key() string {
+	var w strings.Builder
+	w.WriteString(strconv.Itoa(r.of))
+	for _, a := range r.asked {
+		for _, i := range a.path {
+			w.WriteString("." + strconv.Itoa(i))
+		}
+		w.WriteString(" " + strconv.Itoa(a.set))
+	}
+	return w.String()
+}
+
+// find returns what a row asks of the part at a path.
+func (r row) find(path []int) (asked, bool) {
+	for _, a := range r.asked {
+		if slices.Equal(a.path, path) {
+			return a, true
+		}
+	}
+	return asked{}, false
+}
+
+// tooMany is what a maker panics with.
+type tooMany struct{}
+
+// maker makes the trees of a match; left is how many it may still make.
+type maker struct {
+	*space
+	cases []Case
+	left  int
+}
+
+// Decide returns a decision tree for cases.
+func Decide(leaves int, operand Pattern, l []Case) (t Tree, e api.Errno) {
+	if e := checkMatch(leaves, operand, l); e != api.OK {
+		return Tree{}, e
+	}
+	defer func() {
+		if x := recover(); x != nil {
+			t, e = Tree{}, api.ErrFull
+		}
+	}()
+	m := &maker{newSpace(), l, maxTrees}
+	var rows, operands []row
+	for i, c := range l {
+		rows = append(rows, m.whole(i, c.Pattern))
+	}
+	if o := m.whole(0, operand); o.asked[0].set != nothing {
+		operands = append(operands, o)
+	}
+	return m.tree(rows, operands), api.OK
+}
+
+// whole returns a row that asks a value for a pattern.
+func (m *maker) whole(of int, p Pattern) row { return row{of, []asked{{nil, m.of(p), p}}} }
+
+// tree makes the tree of rows, for values that a row of operands takes.
+func (m *maker) tree(rows, operands []row) Tree {
+	m.left--
+	if m.left < 0 {
+		panic(tooMany{})
+	}
+	rows = m.needed(rows, operands)
+	if len(rows) == 0 {
+		return Tree{}
+	}
+	if first := rows[0]; len(first.asked) == 0 {
+		t := Tree{Kind: Take, Case: first.of}
+		if m.cases[first.of].Guard {
+			t.Kids = []Tree{m.tree(rows[1:], operands)}
+		}
+		return t
+	}
+	return m.test(rows, operands)
+}
+
+// needed returns the rows that may take a value of operands, and are not taken by others ahead for sure.
+// They ask for no more than operands leave open.
+func (m *maker) needed(rows, operands []row) []row {
+	var out []row
+	known := map[string]bool{}
+	full := map[int]bool{} // the cases that take all values
+	for _, r := range rows {
+		r.asked = slices.DeleteFunc(slices.Clone(r.asked), func(a asked) bool { return m.isSure(a, operands) })
+		key := r.key()
+		if full[r.of] || known[key] || !slices.ContainsFunc(operands, func(o row) bool { return m.meet(r, o) }) {
+			continue
+		}
+		known[key] = true
+		if len(r.asked) > 0 {
+			out = append(out, r)
+			continue
+		}
+		full[r.of] = true
+		out = append(slices.DeleteFunc(out, func(x row) bool { return x.of == r.of }), r)
+		if !m.cases[r.of].Guard {
+			break
+		}
+	}
+	return out
+}
+
+// isSure reports whether all values of operands have what is asked for.
+func (m *maker) isSure(a asked, operands []row) bool {
+	return !slices.ContainsFunc(operands, func(o row) bool {
+		b, ok := o.find(a.path)
+		return !ok || m.combine(less, 1, b.set, a.set) != nothing
+	})
+}
+
+// meet reports whether two rows take a value together.
+func (m *maker) meet(r, o row) bool {
+	return !slices.ContainsFunc(r.asked, func(a asked) bool {
+		b, ok := o.find(a.path)
+		return ok && m.combine(both, 1, a.set, b.set) == nothing
+	})
+}
+
+// test makes a tree that looks at the first part of which a row asks anything.
+func (m *maker) test(rows, operands []row) Tree {
+	path := rows[0].asked[0].path
+	for _, r := range rows {
+		if len(r.asked) > 0 && slices.Compare(r.asked[0].path, path) < 0 {
+			path = r.asked[0].path
+		}
+	}
+	t := Tree{Kind: Test, Path: slices.Clone(path)}
+	for _, s := range m.sorts(rows, operands, path) {
+		kid := m.tree(m.behind(rows, path, s), m.behind(operands, path, s))
+		if kid.Kind == Fail {
+			m.left++ // no Kid says the same
+			continue
+		}
+		t.Sorts = append(t.Sorts, s)
+		t.Kids = append(t.Kids, kid)
+	}
+	if len(t.Kids) == 0 {
+		return Tree{}
+	}
+	return t
+}
+
+// sorts returns what the part at a path may be: leaves that the same rows take stand together.
+func (m *maker) sorts(rows, operands []row, path []int) []Sort {
+	all := nothing
+	for _, o := range operands {
+		if a, ok := o.find(path); ok {
+			all = m.combine(union, 1, all, a.set)
+		}
+	}
+	may := m.sets[all]
+	var out []Sort
+	places := map[string]int{}
+	for _, n := range may.leaves.list() {
+		key := m.takers(rows, path, n)
+		i, ok := places[key]
+		if !ok {
+			i = len(out)
+			places[key] = i
+			out = append(out, Sort{})
+		}
+		out[i].Leaves = append(out[i].Leaves, n)
+	}
+	for size := leastTuple; size <= mostTuple; size++ {
+		if may.of(size) != nothing {
+			out = append(out, Sort{Arity: size})
+		}
+	}
+	return out
+}
+
+// takers returns a text of the rows that a leaf at a path does not rule out.
+func (m *maker) takers(rows []row, path []int, leaf int) string {
+	var w strings.Builder
+	for _, r := range rows {
+		if a, ok := r.find(path); ok && !m.sets[a.set].leaves.has(leaf) {
+			w.WriteByte('0')
+		} else {
+			w.WriteByte('1')
+		}
+	}
+	return w.String()
+}
+
+// behind returns what is left of rows when the part at a path is of a sort.
+func (m *maker) behind(rows []row, path []int, s Sort) []row {
+	var out []row
+	for _, r := range rows {
+		i := slices.IndexFunc(r.asked, func(a asked) bool { return slices.Equal(a.path, path) })
+		if i < 0 {
+			out = append(out, r)
+			continue
+		}
+		ahead, later := r.asked[:i], r.asked[i+1:]
+		if s.Arity == 0 {
+			if m.sets[r.asked[i].set].leaves.has(s.Leaves[0]) {
+				out = append(out, row{r.of, slices.Concat(ahead, later)})
+			}
+			continue
+		}
+		for _, part := range r.asked[i].pattern {
+			if kids, ok := m.elements(path, part, s.Arity); ok {
+				out = append(out, row{r.of, slices.Concat(ahead, kids, later)})
+			}
+		}
+	}
+	return out
+}
+
+// elements returns what a part asks of the elements of the tuple at a path, if it takes any of this size.
+func (m *maker) elements(path []int, part Part, size int) ([]asked, bool) {
+	if len(part.Kids) != size {
+		return nil, false
+	}
+	var l []asked
+	for i, k := range part.Kids {
+		n := m.of(k)
+		if n == nothing {
+			return nil, false
+		}
+		l = append(l, asked{append(slices.Clip(path), i), n, k})
+	}
+	return l, true
+}
