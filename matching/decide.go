@@ -8,10 +8,10 @@ import (
 	"hackamore/api"
 )
 
-// asked is what a part at a path must be of: the number of a set, and the pattern that it was made of.
+// asked is a pattern that must take the part at a path, and the numbers of what its parts take.
 type asked struct {
 	path    []int
-	set     int
+	sets    []int
 	pattern Pattern
 }
 
@@ -21,7 +21,7 @@ type row struct {
 	asked []asked
 }
 
-// key returns a text that rows of the same case and the same values have.
+// key returns a text that rows of one case that ask for the same have.
 func (r row) key() string {
 	var w strings.Builder
 	w.WriteString(strconv.Itoa(r.of))
@@ -29,7 +29,9 @@ func (r row) key() string {
 		for _, i := range a.path {
 			w.WriteString("." + strconv.Itoa(i))
 		}
-		w.WriteString(" " + strconv.Itoa(a.set))
+		for _, n := range a.sets {
+			w.WriteString(" " + strconv.Itoa(n))
+		}
 	}
 	return w.String()
 }
@@ -69,14 +71,14 @@ func Decide(leaves int, operand Pattern, l []Case) (t Tree, e api.Errno) {
 	for i, c := range l {
 		rows = append(rows, m.whole(i, c.Pattern))
 	}
-	if o := m.whole(0, operand); o.asked[0].set != nothing {
+	if o := m.whole(0, operand); len(o.asked[0].sets) > 0 {
 		operands = append(operands, o)
 	}
 	return m.tree(rows, operands), api.OK
 }
 
 // whole returns a row that asks a value for a pattern.
-func (m *maker) whole(of int, p Pattern) row { return row{of, []asked{{nil, m.of(p), p}}} }
+func (m *maker) whole(of int, p Pattern) row { return row{of, []asked{{nil, m.each(p), p}}} }
 
 // tree makes the tree of rows, for values that a row of operands takes.
 func (m *maker) tree(rows, operands []row) Tree {
@@ -128,7 +130,7 @@ func (m *maker) needed(rows, operands []row) []row {
 func (m *maker) isSure(a asked, operands []row) bool {
 	return !slices.ContainsFunc(operands, func(o row) bool {
 		b, ok := o.find(a.path)
-		return !ok || m.combine(less, 1, b.set, a.set) != nothing
+		return !ok || m.has(mixture{size: 1, in: b.sets, out: a.sets})
 	})
 }
 
@@ -136,7 +138,7 @@ func (m *maker) isSure(a asked, operands []row) bool {
 func (m *maker) meet(r, o row) bool {
 	return !slices.ContainsFunc(r.asked, func(a asked) bool {
 		b, ok := o.find(a.path)
-		return ok && m.combine(both, 1, a.set, b.set) == nothing
+		return ok && !m.has(mixture{size: 1, in: a.sets, also: b.sets, narrowed: true})
 	})
 }
 
@@ -166,13 +168,12 @@ func (m *maker) test(rows, operands []row) Tree {
 
 // sorts returns what the part at a path may be: leaves that the same rows take stand together.
 func (m *maker) sorts(rows, operands []row, path []int) []Sort {
-	all := nothing
+	var may set
 	for _, o := range operands {
 		if a, ok := o.find(path); ok {
-			all = m.combine(union, 1, all, a.set)
+			may = m.any(may, a.sets)
 		}
 	}
-	may := m.sets[all]
 	var out []Sort
 	places := map[string]int{}
 	for _, n := range may.leaves.list() {
@@ -193,11 +194,29 @@ func (m *maker) sorts(rows, operands []row, path []int) []Sort {
 	return out
 }
 
+// any adds to the leaves of a set those of others, and to its tuples, of each size, some of theirs.
+func (m *maker) any(x set, l []int) set {
+	for _, n := range l {
+		for i, word := range m.sets[n].leaves {
+			x.leaves[i] |= word
+		}
+		for i, tuples := range m.sets[n].tuples {
+			x.tuples[i] = max(x.tuples[i], tuples)
+		}
+	}
+	return x
+}
+
+// hasLeaf reports whether a leaf is asked for.
+func (m *maker) hasLeaf(a asked, leaf int) bool {
+	return slices.ContainsFunc(a.sets, func(n int) bool { return m.sets[n].leaves.has(leaf) })
+}
+
 // takers returns a text of the rows that a leaf at a path does not rule out.
 func (m *maker) takers(rows []row, path []int, leaf int) string {
 	var w strings.Builder
 	for _, r := range rows {
-		if a, ok := r.find(path); ok && !m.sets[a.set].leaves.has(leaf) {
+		if a, ok := r.find(path); ok && !m.hasLeaf(a, leaf) {
 			w.WriteByte('0')
 		} else {
 			w.WriteByte('1')
@@ -217,7 +236,7 @@ func (m *maker) behind(rows []row, path []int, s Sort) []row {
 		}
 		ahead, later := r.asked[:i], r.asked[i+1:]
 		if s.Arity == 0 {
-			if m.sets[r.asked[i].set].leaves.has(s.Leaves[0]) {
+			if m.hasLeaf(r.asked[i], s.Leaves[0]) {
 				out = append(out, row{r.of, slices.Concat(ahead, later)})
 			}
 			continue
@@ -238,11 +257,11 @@ func (m *maker) elements(path []int, part Part, size int) ([]asked, bool) {
 	}
 	var l []asked
 	for i, k := range part.Kids {
-		n := m.of(k)
-		if n == nothing {
+		sets := m.each(k)
+		if len(sets) == 0 {
 			return nil, false
 		}
-		l = append(l, asked{append(slices.Clip(path), i), n, k})
+		l = append(l, asked{append(slices.Clip(path), i), sets, k})
 	}
 	return l, true
 }

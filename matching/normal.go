@@ -73,9 +73,6 @@ func beside(goesOn bool) int {
 	return behind
 }
 
-// of returns the tuples of a size.
-func (x set) of(size int) int { return x.tuples[size-leastTuple] }
-
 // hasTuples reports whether a set has tuples of a size, or larger ones.
 func (x set) hasTuples(size int) bool {
 	for ; size <= mostTuple; size++ {
@@ -176,38 +173,90 @@ func (s *space) fill(row []int, kids []Value, yield func(Value) bool) bool {
 	return true
 }
 
-// pattern returns the normal form of a set, unless it has more parts than are left.
-func (s *space) pattern(n int, left *int) (Pattern, bool) {
+// count is how many parts the normal form of a set has, together with those of all patterns in it; of tuples also, without these.
+type count struct{ rows, parts int }
+
+// endless is a count that is too large to go on.
+const endless = 1 << 30
+
+// count counts the parts of a set, or of tuples of a size.
+func (s *space) count(size, n int) count {
+	key := n // tuples have numbers of their own
+	if size == 1 {
+		key = -n
+	}
+	if c, ok := s.sizes[key]; ok || n == nothing {
+		return c
+	}
+	var c count
+	if size == 1 {
+		x := s.sets[n]
+		if x.leaves != (leafSet{}) {
+			c.parts++
+		}
+		for k := leastTuple; k <= mostTuple; k++ {
+			c.parts += s.count(k, x.of(k)).parts
+		}
+	} else {
+		for _, g := range s.tuples[n] {
+			first, rest := s.count(1, g.first), s.count(size-1, g.rest)
+			if size == 2 {
+				rest = count{1, rest.parts + 1}
+			}
+			c.rows = min(endless, c.rows+rest.rows)
+			c.parts = min(endless, c.parts+rest.parts+min(endless, rest.rows)*min(endless, first.parts))
+		}
+	}
+	c.parts = min(endless, c.parts)
+	s.sizes[key] = c
+	return c
+}
+
+// tooLarge is what a bounded space panics with.
+type tooLarge struct{}
+
+// bound ends what makes a normal form whose part has so many parts, if the space is bounded.
+func (s *space) bound(parts int) {
+	if s.bounded && parts > maxMade {
+		panic(tooLarge{})
+	}
+}
+
+// pattern returns the normal form of a set.
+func (s *space) pattern(n int) Pattern {
 	var p Pattern
 	if l := s.sets[n].leaves.list(); len(l) > 0 {
 		p = append(p, Part{Leaves: l})
-		*left--
 	}
 	for size := leastTuple; size <= mostTuple; size++ {
 		for row := range s.rows(size, s.sets[n].of(size)) {
-			*left--
 			var part Part
 			for _, k := range row {
-				kid, ok := s.pattern(k, left)
-				if !ok {
-					return nil, false
-				}
-				part.Kids = append(part.Kids, kid)
+				part.Kids = append(part.Kids, s.pattern(k))
 			}
 			p = append(p, part)
 		}
 	}
-	return p, *left >= 0
+	return p
 }
 
-// normal returns the normal form of a set.
-func (s *space) normal(n int) (Pattern, api.Errno) {
-	left := maxMade
-	p, ok := s.pattern(n, &left)
-	if !ok {
-		return nil, api.ErrLarge
-	}
-	return p, api.OK
+// normal returns the normal form of what make makes.
+func normal(make func(s *space) int) (p Pattern, e api.Errno) {
+	defer func() {
+		if x := recover(); x != nil {
+			p, e = nil, api.ErrLarge
+		}
+	}()
+	s := newSpace()
+	s.bounded = true
+	n := make(s)
+	s.bound(s.count(1, n).parts)
+	return s.pattern(n), api.OK
+}
+
+// checkTwo returns the first error of two patterns.
+func checkTwo(leaves int, p, q Pattern) api.Errno {
+	return firstOf(Check(leaves, p), func() api.Errno { return check(leaves, q) })
 }
 
 // Normal returns the pattern with the same values, whose parts are apart and in order.
@@ -215,32 +264,32 @@ func Normal(leaves int, p Pattern) (Pattern, api.Errno) {
 	if e := Check(leaves, p); e != api.OK {
 		return nil, e
 	}
-	s := newSpace()
-	return s.normal(s.of(p))
-}
-
-// made returns the normal form of what an operation makes of two patterns.
-func made(leaves, op int, p, q Pattern) (Pattern, api.Errno) {
-	if e := firstOf(Check(leaves, p), func() api.Errno { return check(leaves, q) }); e != api.OK {
-		return nil, e
-	}
-	s := newSpace()
-	a, b := s.of(p), s.of(q)
-	return s.normal(s.combine(op, 1, a, b))
+	return normal(func(s *space) int { return s.mix(mixture{size: 1, in: s.each(p)}) })
 }
 
 // Both returns a pattern that takes what two patterns both take.
-func Both(leaves int, p, q Pattern) (Pattern, api.Errno) { return made(leaves, both, p, q) }
+func Both(leaves int, p, q Pattern) (Pattern, api.Errno) {
+	if e := checkTwo(leaves, p, q); e != api.OK {
+		return nil, e
+	}
+	return normal(func(s *space) int {
+		return s.mix(mixture{size: 1, in: s.each(p), also: s.each(q), narrowed: true})
+	})
+}
 
 // Less returns a pattern that takes what only the first pattern takes.
-func Less(leaves int, p, q Pattern) (Pattern, api.Errno) { return made(leaves, less, p, q) }
+func Less(leaves int, p, q Pattern) (Pattern, api.Errno) {
+	if e := checkTwo(leaves, p, q); e != api.OK {
+		return nil, e
+	}
+	return normal(func(s *space) int { return s.mix(mixture{size: 1, in: s.each(p), out: s.each(q)}) })
+}
 
 // Within reports whether a pattern takes all that another one takes.
 func Within(leaves int, p, q Pattern) (bool, api.Errno) {
-	if e := firstOf(Check(leaves, p), func() api.Errno { return check(leaves, q) }); e != api.OK {
+	if e := checkTwo(leaves, p, q); e != api.OK {
 		return false, e
 	}
 	s := newSpace()
-	a, b := s.of(p), s.of(q)
-	return s.combine(less, 1, b, a) == nothing, api.OK
+	return !s.has(mixture{size: 1, in: s.each(q), out: s.each(p)}), api.OK
 }

@@ -15,6 +15,12 @@ type leafSet [(api.MaxUnits + 63) / 64]uint64
 
 func (l leafSet) has(leaf int) bool { return l[leaf/64]>>(leaf%64)&1 == 1 }
 
+func (l leafSet) with(leaf int) leafSet {
+	l[leaf/64] |= 1 << (leaf % 64)
+	return l
+}
+
+// list returns the leaves, ascending.
 func (l leafSet) list() []int {
 	var out []int
 	for i, word := range l {
@@ -30,6 +36,9 @@ type set struct {
 	leaves leafSet
 	tuples [mostTuple - leastTuple + 1]int
 }
+
+// of returns the number of the tuples of a size.
+func (x set) of(size int) int { return x.tuples[size-leastTuple] }
 
 // group has values that can stand first in tuples, and the rests that can stand behind them: the number of a set of values,
 // or that of tuples with one element less.
@@ -53,23 +62,26 @@ const nothing = 0
 type space struct {
 	sets   []set
 	tuples [][]group
-	numbers
-	done     map[operation]int
-	sorted   map[int][]group
-	compared map[[2]int]int
+	known
+	bounded bool // panics where a normal form becomes too large
 }
 
-// numbers are those of sets, and of tuples by the texts of their sizes and groups.
-type numbers struct {
-	ofSet    map[set]int
-	ofTuples map[string]int
+// known has the numbers of sets, and of tuples by the texts of their sizes and groups, and what was found of them.
+type known struct {
+	setNumbers   map[set]int
+	tupleNumbers map[string]int
+	done         map[operation]int
+	mixed        map[string]int
+	found        map[string]bool
+	sorted       map[int][]group
+	compared     map[[2]int]int
+	sizes        map[int]count
 }
 
 func newSpace() *space {
-	s := &space{
-		numbers: numbers{map[set]int{}, map[string]int{}},
-		done:    map[operation]int{}, sorted: map[int][]group{}, compared: map[[2]int]int{},
-	}
+	s := &space{known: known{
+		map[set]int{}, map[string]int{}, map[operation]int{}, map[string]int{}, map[string]bool{}, map[int][]group{}, map[[2]int]int{}, map[int]count{},
+	}}
 	s.add(set{})
 	s.tuples = append(s.tuples, nil)
 	return s
@@ -77,16 +89,16 @@ func newSpace() *space {
 
 // add returns the number of a set.
 func (s *space) add(x set) int {
-	n, ok := s.ofSet[x]
+	n, ok := s.setNumbers[x]
 	if !ok {
 		n = len(s.sets)
 		s.sets = append(s.sets, x)
-		s.ofSet[x] = n
+		s.setNumbers[x] = n
 	}
 	return n
 }
 
-// addTuples returns the number of tuples: rests are the keys of groups, the sets of what stands ahead of them the elements.
+// addTuples returns the number of tuples: rests are the keys, what stands ahead of them are the elements.
 func (s *space) addTuples(size int, firsts map[int]int) int {
 	var l []group
 	for rest, first := range firsts {
@@ -103,25 +115,24 @@ func (s *space) addTuples(size int, firsts map[int]int) int {
 	for _, g := range l {
 		key.WriteString(" " + strconv.Itoa(g.first) + " " + strconv.Itoa(g.rest))
 	}
-	n, ok := s.ofTuples[key.String()]
+	n, ok := s.tupleNumbers[key.String()]
 	if !ok {
 		n = len(s.tuples)
 		s.tuples = append(s.tuples, l)
-		s.ofTuples[key.String()] = n
+		s.tupleNumbers[key.String()] = n
 	}
 	return n
 }
 
-// of returns the number of what a right pattern takes.
-func (s *space) of(p Pattern) int {
-	out := nothing
+// each returns the numbers of what the parts of a right pattern take, one by one.
+func (s *space) each(p Pattern) []int {
+	var out []int
 	for _, part := range p {
 		var x set
-		if len(part.Kids) == 0 {
-			for _, n := range part.Leaves {
-				x.leaves[n/64] |= 1 << (n % 64)
-			}
-		} else {
+		for _, n := range part.Leaves {
+			x.leaves = x.leaves.with(n)
+		}
+		if len(part.Kids) > 0 {
 			var kids []int
 			for _, k := range part.Kids {
 				n := s.of(k)
@@ -129,9 +140,20 @@ func (s *space) of(p Pattern) int {
 			}
 			x.tuples[len(kids)-leastTuple] = s.product(kids)
 		}
-		out = s.combine(union, 1, out, s.add(x))
+		if n := s.add(x); n != nothing {
+			out = append(out, n)
+		}
 	}
-	return out
+	return distinct(out)
+}
+
+// of returns the number of what a right pattern takes. No limit holds for it: it may be less in the end.
+func (s *space) of(p Pattern) int {
+	bounded := s.bounded
+	s.bounded = false
+	n := s.mix(mixture{size: 1, in: s.each(p)})
+	s.bounded = bounded
+	return n
 }
 
 // product returns the number of the tuples whose elements are of sets, one by one.

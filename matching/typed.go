@@ -31,8 +31,12 @@ func Of(p []api.Entity, t api.Type) (Pattern, api.Errno) {
 	if e := checkType(p, t, 0); e != api.OK {
 		return nil, e
 	}
-	x := typed{newSpace(), p, Leaves(p)}
-	return x.normal(x.of(t))
+	return normal(func(s *space) int {
+		s.bounded = false // what is made of parts may be less in the end
+		n := typed{s, p, Leaves(p)}.of(t)
+		s.bounded = true
+		return n
+	})
 }
 
 // checkType returns the error of a type that stands within so many tuples.
@@ -97,14 +101,18 @@ func (x typed) of(t api.Type) int {
 		out.tuples[len(kids)-leastTuple] = x.product(kids)
 		return x.add(out)
 	}
-	op := union
-	if t.Kind == api.TypeBoth {
-		op = both
+	var l []int
+	for _, a := range t.Args {
+		if n := x.of(a); n != nothing || t.Kind == api.TypeBoth {
+			l = append(l, n)
+		}
 	}
-	out := x.of(t.Args[0])
-	for _, a := range t.Args[1:] {
-		n := x.of(a)
-		out = x.combine(op, 1, out, n)
+	if t.Kind == api.TypeUnion {
+		return x.mix(mixture{size: 1, in: distinct(l)})
+	}
+	out := l[0]
+	for _, n := range l[1:] {
+		out = x.combine(both, 1, out, n)
 	}
 	return out
 }
@@ -117,7 +125,7 @@ func (x typed) named(name string) leafSet {
 	for n, leaf := range x.leaves {
 		own := api.Type{Kind: api.TypeName, Name: leaf, Cap: api.Val}
 		if isConcrete(x.p[i]) && leaf == name || !isConcrete(x.p[i]) && subtype.Bare(x.p, own, asked) {
-			l[n/64] |= 1 << (n % 64)
+			l = l.with(n)
 			if isConcrete(x.p[i]) {
 				break
 			}
