@@ -1,6 +1,7 @@
 package matching
 
 import (
+	"iter"
 	"slices"
 	"strconv"
 	"strings"
@@ -46,6 +47,25 @@ func (r row) find(path []int) (asked, bool) {
 	return asked{}, false
 }
 
+// keys returns the keys of rows.
+func keys(rows []row) []string {
+	var l []string
+	for _, r := range rows {
+		l = append(l, r.key())
+	}
+	return l
+}
+
+// open is what is not decided yet: rows that may take values that operands take. Operands say nothing of parts of which no row asks.
+type open struct{ rows, operands []row }
+
+// key returns a text that only what is decided alike has.
+func (o open) key() string {
+	operands := keys(o.operands)
+	slices.Sort(operands)
+	return strings.Join(keys(o.rows), "|") + "\n" + strings.Join(operands, "|")
+}
+
 // tooMany is what a maker panics with.
 type tooMany struct{}
 
@@ -74,39 +94,69 @@ func Decide(leaves int, operand Pattern, l []Case) (t Tree, e api.Errno) {
 	if o := m.whole(0, operand); len(o.asked[0].sets) > 0 {
 		operands = append(operands, o)
 	}
-	return m.tree(rows, operands), api.OK
+	return m.tree(m.open(slices.Values(rows), operands)), api.OK
 }
 
 // whole returns a row that asks a value for a pattern.
 func (m *maker) whole(of int, p Pattern) row { return row{of, []asked{{nil, m.each(p), p}}} }
 
-// tree makes the tree of rows, for values that a row of operands takes.
-func (m *maker) tree(rows, operands []row) Tree {
+// open returns what rows and operands leave open.
+func (m *maker) open(rows iter.Seq[row], operands []row) open {
+	l := m.needed(rows, operands)
+	return open{l, told(operands, l)}
+}
+
+// told returns what operands say of the parts of which rows ask, each once.
+func told(operands, rows []row) []row {
+	var paths [][]int
+	isAsked := func(path []int) bool {
+		return slices.ContainsFunc(paths, func(x []int) bool { return slices.Equal(x, path) })
+	}
+	for _, r := range rows {
+		for _, a := range r.asked {
+			if !isAsked(a.path) {
+				paths = append(paths, a.path)
+			}
+		}
+	}
+	var out []row
+	known := map[string]bool{}
+	for _, o := range operands {
+		o.asked = slices.DeleteFunc(slices.Clone(o.asked), func(a asked) bool { return !isAsked(a.path) })
+		if key := o.key(); !known[key] {
+			known[key] = true
+			out = append(out, o)
+		}
+	}
+	return out
+}
+
+// tree makes the tree of what is open.
+func (m *maker) tree(o open) Tree {
 	m.left--
 	if m.left < 0 {
 		panic(tooMany{})
 	}
-	rows = m.needed(rows, operands)
-	if len(rows) == 0 {
+	if len(o.rows) == 0 {
 		return Tree{}
 	}
-	if first := rows[0]; len(first.asked) == 0 {
+	if first := o.rows[0]; len(first.asked) == 0 {
 		t := Tree{Kind: Take, Case: first.of}
 		if m.cases[first.of].Guard {
-			t.Kids = []Tree{m.tree(rows[1:], operands)}
+			t.Kids = []Tree{m.tree(m.open(slices.Values(o.rows[1:]), o.operands))}
 		}
 		return t
 	}
-	return m.test(rows, operands)
+	return m.test(o)
 }
 
 // needed returns the rows that may take a value of operands, and are not taken by others ahead for sure.
 // They ask for no more than operands leave open.
-func (m *maker) needed(rows, operands []row) []row {
+func (m *maker) needed(rows iter.Seq[row], operands []row) []row {
 	var out []row
 	known := map[string]bool{}
 	full := map[int]bool{} // the cases that take all values
-	for _, r := range rows {
+	for r := range rows {
 		r.asked = slices.DeleteFunc(slices.Clone(r.asked), func(a asked) bool { return m.isSure(a, operands) })
 		key := r.key()
 		if full[r.of] || known[key] || !slices.ContainsFunc(operands, func(o row) bool { return m.meet(r, o) }) {
@@ -142,32 +192,37 @@ func (m *maker) meet(r, o row) bool {
 	})
 }
 
-// test makes a tree that looks at the first part of which a row asks anything.
-func (m *maker) test(rows, operands []row) Tree {
-	path := rows[0].asked[0].path
-	for _, r := range rows {
+// test makes a tree that looks at the first part of which a row asks anything. Leaves behind which the same is open stand together.
+func (m *maker) test(o open) Tree {
+	path := o.rows[0].asked[0].path
+	for _, r := range o.rows {
 		if len(r.asked) > 0 && slices.Compare(r.asked[0].path, path) < 0 {
 			path = r.asked[0].path
 		}
 	}
 	t := Tree{Kind: Test, Path: slices.Clone(path)}
-	for _, s := range m.sorts(rows, operands, path) {
-		kid := m.tree(m.behind(rows, path, s), m.behind(operands, path, s))
-		if kid.Kind == Fail {
-			m.left++ // no Kid says the same
+	places := map[string]int{}
+	for _, s := range m.sorts(o.operands, path) {
+		operands := slices.Collect(m.behind(o.operands, path, s))
+		next := m.open(m.behind(o.rows, path, s), operands)
+		if len(next.rows) == 0 {
+			continue // no Kid says the same
+		}
+		key := next.key()
+		if i, ok := places[key]; ok && s.Arity == 0 {
+			t.Sorts[i].Leaves = append(t.Sorts[i].Leaves, s.Leaves...)
 			continue
 		}
+		kid := m.tree(next)
+		places[key] = len(t.Kids)
 		t.Sorts = append(t.Sorts, s)
 		t.Kids = append(t.Kids, kid)
-	}
-	if len(t.Kids) == 0 {
-		return Tree{}
 	}
 	return t
 }
 
-// sorts returns what the part at a path may be: leaves that the same rows take stand together.
-func (m *maker) sorts(rows, operands []row, path []int) []Sort {
+// sorts returns what the part at a path may be, leaf by leaf.
+func (m *maker) sorts(operands []row, path []int) []Sort {
 	var may set
 	for _, o := range operands {
 		if a, ok := o.find(path); ok {
@@ -175,16 +230,8 @@ func (m *maker) sorts(rows, operands []row, path []int) []Sort {
 		}
 	}
 	var out []Sort
-	places := map[string]int{}
 	for _, n := range may.leaves.list() {
-		key := m.takers(rows, path, n)
-		i, ok := places[key]
-		if !ok {
-			i = len(out)
-			places[key] = i
-			out = append(out, Sort{})
-		}
-		out[i].Leaves = append(out[i].Leaves, n)
+		out = append(out, Sort{Leaves: []int{n}})
 	}
 	for size := leastTuple; size <= mostTuple; size++ {
 		if may.of(size) != nothing {
@@ -212,42 +259,42 @@ func (m *maker) hasLeaf(a asked, leaf int) bool {
 	return slices.ContainsFunc(a.sets, func(n int) bool { return m.sets[n].leaves.has(leaf) })
 }
 
-// takers returns a text of the rows that a leaf at a path does not rule out.
-func (m *maker) takers(rows []row, path []int, leaf int) string {
-	var w strings.Builder
-	for _, r := range rows {
-		if a, ok := r.find(path); ok && !m.hasLeaf(a, leaf) {
-			w.WriteByte('0')
-		} else {
-			w.WriteByte('1')
+// behind hands on what is left of rows when the part at a path is of a sort: a tuple, or the one leaf.
+func (m *maker) behind(rows []row, path []int, s Sort) iter.Seq[row] {
+	return func(yield func(row) bool) {
+		for _, r := range rows {
+			i := slices.IndexFunc(r.asked, func(a asked) bool { return slices.Equal(a.path, path) })
+			if i < 0 {
+				if !yield(r) {
+					return
+				}
+				continue
+			}
+			ahead, later := r.asked[:i], r.asked[i+1:]
+			for kids := range m.below(r.asked[i], s) {
+				if !yield(row{r.of, slices.Concat(ahead, kids, later)}) {
+					return
+				}
+			}
 		}
 	}
-	return w.String()
 }
 
-// behind returns what is left of rows when the part at a path is of a sort.
-func (m *maker) behind(rows []row, path []int, s Sort) []row {
-	var out []row
-	for _, r := range rows {
-		i := slices.IndexFunc(r.asked, func(a asked) bool { return slices.Equal(a.path, path) })
-		if i < 0 {
-			out = append(out, r)
-			continue
-		}
-		ahead, later := r.asked[:i], r.asked[i+1:]
+// below hands on what is asked of the elements of a part of a sort, each way in which it has what is asked of it.
+func (m *maker) below(a asked, s Sort) iter.Seq[[]asked] {
+	return func(yield func([]asked) bool) {
 		if s.Arity == 0 {
-			if m.hasLeaf(r.asked[i], s.Leaves[0]) {
-				out = append(out, row{r.of, slices.Concat(ahead, later)})
+			if m.hasLeaf(a, s.Leaves[0]) {
+				yield(nil)
 			}
-			continue
+			return
 		}
-		for _, part := range r.asked[i].pattern {
-			if kids, ok := m.elements(path, part, s.Arity); ok {
-				out = append(out, row{r.of, slices.Concat(ahead, kids, later)})
+		for _, part := range a.pattern {
+			if kids, ok := m.elements(a.path, part, s.Arity); ok && !yield(kids) {
+				return
 			}
 		}
 	}
-	return out
 }
 
 // elements returns what a part asks of the elements of the tuple at a path, if it takes any of this size.

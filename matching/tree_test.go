@@ -239,6 +239,135 @@ func TestMatches(t *testing.T) {
 	}
 }
 
+// TestEveryValue: promise 12.4, for all values of operands whose leaves have different rests behind them, and all guards.
+func TestEveryValue(t *testing.T) {
+	four, zero := tup(of(1, 4), of(3)), tup(of(0), of(0))
+	follows(t, 5, or(four, zero), []Case{on(tup(of(0, 4), of(0)))})
+	follows(t, 5, or(zero, four), []Case{on(tup(of(0, 4), of(0))), on(tup(of(0, 1, 4), of(3)))})
+	follows(t, 5, or(four, zero), []Case{guarded(tup(of(0, 4), of(0))), guarded(tup(of(0, 1, 4), of(0, 3)))})
+	follows(t, 5, or(tup(of(0), of(1, 4), of(3)), tup(of(0), of(0), of(0))), []Case{on(tup(of(0), of(0, 4), of(0)))})
+	follows(t, 5, or(tup(of(2), four), tup(of(3), zero)), []Case{on(tup(of(2, 3), tup(of(0, 4), of(0))))})
+	follows(t, 5, or(tup(or(of(1), tup(of(4), of(4))), of(3)), tup(or(of(0), tup(of(0), of(0))), of(0))), []Case{on(tup(or(of(0, 1), tup(of(0, 4), of(0, 4))), of(0)))})
+	compared := 0
+	for seed := range uint64(4000) {
+		m := maker{sample.Source(seed), 2 + int(seed%5)}
+		operand := m.pattern(3, 3)
+		if seed/5%2 == 0 { // tuples of leaves alone
+			operand = nil
+			for range 2 + m.pick(3) {
+				operand = append(operand, Part{Kids: []Pattern{m.pattern(1, 2), m.pattern(1, 2)}})
+			}
+		}
+		var l []Case
+		for range 1 + m.pick(3) {
+			l = append(l, Case{m.near(operand), m.pick(4) == 0})
+		}
+		compared += follows(t, m.leaves, operand, l)
+	}
+	if compared < 40000 {
+		t.Errorf("%d values are compared", compared)
+	}
+}
+
+// near makes a pattern whose parts have the form of those of another one, with other leaves.
+func (m maker) near(p Pattern) Pattern {
+	var out Pattern
+	for _, part := range p {
+		if len(part.Kids) == 0 {
+			out = append(out, m.pattern(1, 1)...)
+			continue
+		}
+		if m.pick(3) == 0 {
+			continue
+		}
+		var kids []Pattern
+		for _, k := range part.Kids {
+			kids = append(kids, m.near(k))
+		}
+		out = append(out, Part{Kids: kids})
+	}
+	return out
+}
+
+// every returns the values that a pattern takes, some twice, and whether they are all: of many it returns some.
+func every(p Pattern) (out []Value, whole bool) {
+	whole = true
+	for _, part := range p {
+		for _, n := range part.Leaves {
+			out = append(out, leaf(n))
+		}
+		if len(part.Kids) == 0 {
+			continue
+		}
+		rows := [][]Value{nil}
+		for _, k := range part.Kids {
+			var next [][]Value
+			values, all := every(k)
+			for _, v := range values {
+				for _, row := range rows {
+					next = append(next, append(slices.Clip(row), v))
+				}
+			}
+			rows = next[:min(len(next), 200)]
+			whole = whole && all && len(rows) == len(next)
+		}
+		for _, row := range rows {
+			out = append(out, tuple(row...))
+		}
+	}
+	return out, whole
+}
+
+// follows compares the tree of a match with Taken, for all values of the operand and all guards, and returns how many values there are.
+func follows(t *testing.T, leaves int, operand Pattern, l []Case) int {
+	t.Helper()
+	tree, e := Decide(leaves, operand, l)
+	if e == api.ErrSize {
+		return 0
+	}
+	if code := CheckTree(leaves, len(l), tree); e != api.OK || code != api.OK {
+		t.Fatalf("Decide of %s and %s: error %d; CheckTree: error %d", show(operand), text(l), e, code)
+	}
+	values, whole := every(operand)
+	for _, v := range values {
+		for guards := range 1 << len(l) {
+			holds := make([]bool, len(l))
+			for i := range holds {
+				holds[i] = guards>>i&1 == 1
+			}
+			want, _ := Taken(leaves, l, v, holds)
+			if got, _, e := Run(leaves, tree, v, holds); got != want || e != api.OK {
+				t.Fatalf("%v of %s, with %v of %s: the tree takes %d, error %d, want %d", v, show(operand), holds, text(l), got, e, want)
+			}
+		}
+	}
+	if whole {
+		reaches(t, leaves, operand, l, values)
+	}
+	return len(values)
+}
+
+// reaches compares Exhaustive and Unreachable with what the cases of a match take of all values of its operand.
+func reaches(t *testing.T, leaves int, operand Pattern, l []Case, values []Value) {
+	t.Helper()
+	var want []int
+	left := values
+	for i, c := range l {
+		takes := func(v Value) bool { return takes(t, leaves, c.Pattern, v) }
+		if !slices.ContainsFunc(left, takes) {
+			want = append(want, i)
+		}
+		if !c.Guard {
+			left = slices.DeleteFunc(slices.Clone(left), takes)
+		}
+	}
+	ok, v, _ := Exhaustive(leaves, operand, l)
+	never, _ := Unreachable(leaves, operand, l)
+	if ok != (len(left) == 0) || !ok && !slices.ContainsFunc(left, func(x Value) bool { return same(x, v) }) || !slices.Equal(never, want) {
+		t.Fatalf("%s with %s: exhaustive %v, %v, unreachable %v, want %v, %v", show(operand), text(l), ok, v, never, left, want)
+	}
+}
+
 // caught reports whether a case without a guard takes a value.
 func caught(t *testing.T, leaves int, l []Case, v Value) bool {
 	return slices.ContainsFunc(l, func(c Case) bool { return !c.Guard && takes(t, leaves, c.Pattern, v) })
@@ -384,6 +513,52 @@ func TestFull(t *testing.T) {
 	}
 	if tree, e := Decide(api.MaxUnits, tup(x, x), l); e != api.OK || !same(tree, fail()) {
 		t.Errorf("cases of other tuples: %d trees, error %d", trees(tree), e)
+	}
+	for more, want := range []api.Errno{api.OK, api.ErrFull} {
+		tree, e := Decide(api.MaxUnits, x, atLimit(more))
+		if e != want || e == api.OK && trees(tree) != 5000 || e != api.OK && !same(tree, fail()) {
+			t.Errorf("%d trees above the limit: %d trees, error %d, want %d", more, trees(tree), e, want)
+		}
+	}
+}
+
+// atLimit returns guards over leaves whose tree has 5000 trees, and so many more. To most leaves no case belongs.
+func atLimit(more int) []Case {
+	sets := make([][]int, 64)
+	for guard := range sets {
+		for leaf := range 79 {
+			missing := []int{leaf, leaf} // 64 leaves without one guard, 14 without two
+			if leaf >= 64 {
+				missing = []int{0, leaf - 63}
+			}
+			if leaf == 78 && guard < 20+more || leaf < 78 && !slices.Contains(missing, guard) {
+				sets[guard] = append(sets[guard], leaf)
+			}
+		}
+	}
+	var l []Case
+	for _, set := range sets {
+		l = append(l, guarded(of(set...)))
+	}
+	return l
+}
+
+// TestTogether: leaves behind which the same is open stand together, whatever operands say of parts of which no case asks.
+func TestTogether(t *testing.T) {
+	var operand Pattern
+	for i := range 60 {
+		operand = append(operand, tup(of(i), of(i))...)
+	}
+	x := of(all()...)
+	for i, c := range []struct {
+		l    []Case
+		want int
+	}{
+		{[]Case{on(tup(of(0), of(0))), on(tup(x, x))}, 4}, {[]Case{on(tup(of(0, 1), of(0))), on(tup(x, x))}, 4}, {[]Case{guarded(tup(of(0, 1), of(0))), on(tup(x, x))}, 5}, {[]Case{on(tup(of(7, 9), of(9)))}, 3}, {[]Case{on(tup(x, of(7, 9)))}, 3},
+	} {
+		if tree, e := Decide(api.MaxUnits, operand, c.l); e != api.OK || trees(tree) != c.want {
+			t.Errorf("match %d: %d trees, error %d, want %d", i, trees(tree), e, c.want)
+		}
 	}
 }
 
