@@ -399,7 +399,27 @@ func TestErrors(t *testing.T) {
 	one(ErrKind, []int{1, 3, 0}, "class C[A] let x: T[A] type T[X] is X->U8")
 	one(api.ErrScope, []int{1, 2, 0, 0}, "class C[A] let x: T[A] type T[X: Y] is X")
 	one(api.ErrScope, []int{1, 3}, "class C let x: T let y: U8 type T is Y")
-	one(ErrArity, []int{1, 3}, "class C[A] let x: T->U8 type T is Array")
+	for _, alias := range []string{"type T is Array", "type T is Y", "type T is U8", "type T is S type S is Y", "type T is (U8, Y)", "type T is this", "type T is this->U8", "type T is A->U8", "type T[X] is X->U8"} {
+		one(ErrKind, []int{0, 4, 1, 0}, "class C[A] let x: T->U8 "+alias)
+		one(ErrKind, []int{0, 4, 1, 0}, "class C[A] let x: T->Y "+alias)
+		one(ErrKind, []int{0, 3, 0}, "class C[A] is T->Y "+alias)
+		one(ErrKind, []int{0, 3, 1, 2, 0}, "class C[A] is (U8 & Array[T->Y]) "+alias)
+		one(ErrKind, []int{0, 2, 1, 0, 0}, "class C[A, B: T->Y] "+alias)
+		one(ErrKind, []int{0, 4, 3, 0, 0, 0}, "class C[A] fun f(x: T->Y) "+alias)
+		one(ErrKind, []int{0, 4, 4, 0}, "class C[A] fun f(): T->Y "+alias)
+		one(ErrKind, []int{0, 4, 6, 0, 1, 0}, "class C[A] fun f() => let x: T->Y = z "+alias)
+		one(ErrKind, []int{0, 4, 6, 2, 0, 1, 0}, "class C[A] fun f() => match 1 | let x: T->Y => z end "+alias)
+	}
+	one(ErrKind, []int{0, 4, 1, 0}, "class C let x: T[Y]->U8 type T[X] is Y")
+	one(ErrKind, []int{0, 4, 1, 0}, "class C let x: T[Y]->U8 type T[X] is U8")
+	one(ErrKind, []int{0, 4, 1, 0}, "class C let x: T[S]->U8 type T[X] is X type S is Y")
+	one(ErrKind, []int{0, 4, 1, 0}, "class C let x: T[U8]->Y type T[X] is X")
+	one(api.ErrScope, []int{0, 4, 1, 0, 2}, "class C let x: T[Y]->U8 type T[X] is X")
+	one(ErrArity, []int{0, 4, 1, 0}, "class C[A] let x: T->U8 type T[X] is X")
+	one(api.ErrScope, []int{0, 4, 1, 1}, "class C[A] let x: T[A]->Y type T[X: Y] is X")
+	one(api.ErrScope, []int{1, 2, 0, 0}, "class C[A] let x: T[A]->U8 type T[X: Y] is X")
+	one(api.ErrScope, []int{0, 3, 0}, "type S is Y->U8 type T is Y")
+	one(ErrKind, []int{0, 3, 0}, "type S is T->U8 type T is Y")
 	full := "class C"
 	for i := range 65 {
 		full += " let f" + string(rune('a'+i%26)) + strings.Repeat("x", i/26) + ": U8"

@@ -47,20 +47,23 @@ func (r *resolver) left(t *tree) api.Type {
 	if t.Kind != syntax.NamedType {
 		r.fail(t, ErrKind)
 	}
-	if !r.params[t.Text] {
-		d := r.find(t, t.Text)
-		if d.kind > 0 {
-			r.fail(t, ErrKind)
-		}
-	}
-	if r.isAlias {
+	if !r.mayBeParam(t) || r.isAlias {
 		r.fail(t, ErrKind)
 	}
 	x := r.typ(t)
-	if x.Kind != api.TypeParam && x.Kind != 0 { // a type of Kind 0 is that of a wrong alias
+	if x.Kind != api.TypeParam { // the argument that an alias stands for is none
 		r.fail(t, ErrKind)
 	}
 	return x
+}
+
+// mayBeParam reports whether a name is a type parameter, or an alias in whose place one of its arguments stands: what is wrong with its arguments comes behind what is wrong with a name.
+func (r *resolver) mayBeParam(t *tree) bool {
+	if r.params[t.Text] {
+		return true
+	}
+	d := r.find(t, t.Text)
+	return d.kind == 0 && (r.isAlias || r.expand(d).Kind == api.TypeParam)
 }
 
 // find returns what is visible under a name.
