@@ -127,9 +127,6 @@ func Method(m api.Method, params []string, args []api.Type) (api.Method, api.Err
 	}
 	s := &substituting{substitution: substitution{params, args, checkAll(args)}}
 	out := s.method(m)
-	if s.first == api.OK { // of a method without types
-		s.first = s.wrong
-	}
 	if s.first != api.OK {
 		return api.Method{}, s.first
 	}

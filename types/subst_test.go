@@ -297,12 +297,15 @@ func TestMethod(t *testing.T) {
 		{api.Method{Bounds: bound, Params: []api.Param{{Type: long}}, Result: fine}, nil, nil, api.ErrForm}, {api.Method{Bounds: bound, Params: []api.Param{{Type: long}}, Result: fine}, []string{"C"}, []api.Type{fine}, api.ErrSize},
 		{api.Method{Params: []api.Param{{Type: fine}, {Type: long}}, Result: none}, nil, nil, api.ErrSize}, {api.Method{Result: none, Body: api.Expr{Types: []api.Type{long}}}, nil, nil, api.ErrForm},
 		{api.Method{Body: api.Expr{Types: []api.Type{fine, long}, Kids: []api.Expr{{Types: []api.Type{none}}}}}, nil, nil, api.ErrSize}, {api.Method{Body: api.Expr{Kids: []api.Expr{{Types: []api.Type{none}}, {Types: []api.Type{long}}}}}, nil, nil, api.ErrForm},
-		{api.Method{Result: long}, []string{"A"}, []api.Type{none}, api.ErrSize}, {api.Method{Result: fine, Body: api.Expr{Types: []api.Type{long}}}, []string{"A"}, []api.Type{none}, api.ErrForm}, {api.Method{}, []string{"A"}, []api.Type{none}, api.ErrForm},
+		{api.Method{Result: long}, []string{"A"}, []api.Type{none}, api.ErrSize}, {api.Method{Result: fine, Body: api.Expr{Types: []api.Type{long}}}, []string{"A"}, []api.Type{none}, api.ErrForm}, {api.Method{}, []string{"A"}, []api.Type{none}, api.OK},
 		{api.Method{}, []string{"A"}, []api.Type{fine}, api.OK}, {api.Method{Bounds: []api.Bound{{Name: "C", Type: named("Any", api.CapAny, 0)}}}, nil, nil, api.ErrForm},
 		{api.Method{Result: of(api.TypeArrow, param("A", 0, 0), fine)}, []string{"A"}, []api.Type{of(api.TypeTuple, fine, fine)}, api.ErrForm},
+		// what replaces nothing tells no error
+		{api.Method{Params: []api.Param{{}}, Body: api.Expr{Op: api.OpSeq, Types: []api.Type{{}}}}, []string{"A"}, []api.Type{long}, api.OK}, {api.Method{Params: []api.Param{{Type: api.Type{Kind: -1}}}}, []string{"A"}, []api.Type{fine}, api.ErrForm},
+		{api.Method{Bounds: bound}, []string{"B", "C"}, []api.Type{none, long}, api.OK}, {api.Method{Bounds: bound, Result: fine}, []string{"B", "C"}, []api.Type{long, none}, api.ErrSize}, {api.Method{Body: api.Expr{Kids: []api.Expr{{Types: []api.Type{{}, fine}}}}}, []string{"B"}, []api.Type{none}, api.ErrForm},
 	} {
 		got, e := Method(x.m, x.params, x.args)
-		if e != x.want || e != api.OK && !reflect.DeepEqual(got, api.Method{}) {
+		if e != x.want || e != api.OK && !reflect.DeepEqual(got, api.Method{}) || e == api.OK && !reflect.DeepEqual(got.Body, x.m.Body) {
 			t.Errorf("Method %d: %v, error %d, want %d", i, got, e, x.want)
 		}
 	}
