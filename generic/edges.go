@@ -110,14 +110,13 @@ func (f *flows) into(at place, args []api.Type, to target) {
 		return
 	}
 	for i, arg := range args {
+		within := false // the first node is the argument itself
 		for n := range nodes(arg) {
-			if n.Kind != api.TypeParam {
-				continue
+			from, ok := at.param(n.Name)
+			if ok && n.Kind == api.TypeParam {
+				f.edges[Edge{from, to.owner + to.names[i], within}] = true
 			}
-			if from, ok := at.param(n.Name); ok {
-				same := arg.Kind == api.TypeParam && arg.Name == n.Name
-				f.edges[Edge{from, to.owner + to.names[i], !same}] = true
-			}
+			within = true
 		}
 	}
 }

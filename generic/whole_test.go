@@ -248,6 +248,13 @@ func TestEdges(t *testing.T) {
 	new := func(name string, l ...string) api.Expr {
 		return api.Expr{Op: api.OpNew, Text: name, Types: typs(l...)}
 	}
+	within := func(name string, l ...api.Type) api.Type {
+		return api.Type{Kind: api.TypeParam, Name: name, Args: l}
+	}
+	fieldOf := func(e api.Entity, arg api.Type) api.Entity {
+		e.Fields = []api.Field{{Name: "f", Type: api.Type{Kind: api.TypeName, Name: "Cell", Args: []api.Type{arg}}}}
+		return e
+	}
 	other := over(entity(api.Trait, "Other", nil, bound(fun("m", ""), "Y: Any tag"), bound(fun("m", ""), "Y: Any tag", "Z: Any tag"), fun("m", "")), "A")
 	for i, x := range []struct {
 		p    []api.Entity
@@ -261,6 +268,8 @@ func TestEdges(t *testing.T) {
 		{[]api.Entity{method(new("m", "Other[U32 val] ref", "$X")), other}, "C.m.X>Other.m.Y"}, {[]api.Entity{method(new("m", "Other[$A] ref", "$X", "Cell[$A] ref")), other, cell}, "C.A>Cell.A C.A>Other.A C.A>Other.m.Z+ C.m.X>Other.m.Y"}, {[]api.Entity{method(new("m", "$Other", "$X")), other}, ""}, {[]api.Entity{method(new("m", "Other ref")), other}, ""},
 		{[]api.Entity{method(api.Expr{Op: api.OpVar, Types: typs("Cell[$X] ref"), Kids: []api.Expr{call("q", "Cell[$A] ref")}}), cell}, "C.A>Cell.A C.m.X>Cell.A"}, {[]api.Entity{cell, over(entity(api.Class, "Cell", typs("Cell[Cell[$B] ref] ref")), "B")}, ""},
 		{[]api.Entity{cell, {Name: "Raw", Bounds: []api.Bound{{Name: "A"}}, Fields: []api.Field{{Type: api.Type{Kind: 99, Args: []api.Type{{Kind: api.TypeName, Name: "Cell", Args: []api.Type{{Kind: api.TypeParam, Name: "A", Cap: 99}}}}}}}}}, "Raw.A>Cell.A"},
+		{[]api.Entity{cell, fieldOf(list, within("A"))}, "List.A>Cell.A"}, {[]api.Entity{cell, fieldOf(list, within("A", within("A")))}, "List.A>Cell.A List.A>Cell.A+"}, {[]api.Entity{cell, fieldOf(list, within("A", within("Q", within("A"))))}, "List.A>Cell.A List.A>Cell.A+"}, {[]api.Entity{cell, fieldOf(list, within("Q", within("A")))}, "List.A>Cell.A+"},
+		{[]api.Entity{over(entity(api.Class, "C", nil, body(bound(fun("m", "U32 val"), "X: Any tag"), api.Expr{Op: api.OpCall, Text: "m", Types: []api.Type{within("X", within("X"), within("A"))}})), "A")}, "C.A>C.m.X+ C.m.X>C.m.X C.m.X>C.m.X+"},
 	} {
 		l, e := Edges(x.p)
 		if got := show(l); e != api.OK || got != x.want {
@@ -287,6 +296,16 @@ func TestEnds(t *testing.T) {
 		if got := strings.Join(l, " "); e != api.OK || got != x.want || ends != (x.want == "") {
 			t.Errorf("Ends %d: %v, %s, error %d, want %s", i, ends, got, e, x.want)
 		}
+	}
+	inner := api.Type{Kind: api.TypeParam, Name: "A"}
+	inner.Args = []api.Type{inner}
+	cell.Fields = []api.Field{{Name: "f", Type: api.Type{Kind: api.TypeName, Name: "Cell", Args: []api.Type{inner}}}}
+	if ends, l, e := Ends([]api.Entity{cell}); ends || !slices.Equal(l, []string{"Cell.A"}) || e != api.OK {
+		t.Errorf("a parameter within itself: %v, %v, error %d", ends, l, e)
+	}
+	main := entity(api.Actor, "Main", nil, api.Method{Kind: api.New, Name: "create"})
+	if _, e := Reify([]api.Entity{cell, main}, "Main"); e != ErrGrow {
+		t.Errorf("Reify of a parameter within itself: error %d", e)
 	}
 	long := []api.Entity{}
 	for i := range api.MaxUnits {
