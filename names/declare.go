@@ -49,13 +49,14 @@ type module struct {
 	visible map[string]*declared
 }
 
-// resolver has the modules, those of the builtin package first, and where its walk is.
+// resolver has the modules, those of the builtin package first, and where its walk is. While it is refusing, it looks for errors alone.
 type resolver struct {
-	flags   []string
-	modules []*module // the sources
-	builtin []*module // those ahead of and behind the number types
-	packs   map[string][]*declared
-	rules   map[int]func(*resolver, *tree) api.Expr
+	flags    []string
+	modules  []*module // the sources
+	builtin  []*module // those ahead of and behind the number types
+	packs    map[string][]*declared
+	rules    map[int]func(*resolver, *tree) api.Expr
+	refusing bool
 	*place
 }
 

@@ -7,6 +7,20 @@ import (
 	"hackamore/syntax"
 )
 
+// refuse refuses what is wrong in entities and aliases.
+func (r *resolver) refuse() {
+	r.refusing = true
+	for _, m := range r.modules {
+		r.entities(m)
+	}
+	r.refusing = false
+	for _, m := range r.modules {
+		for _, d := range m.all {
+			d.typ = nil
+		}
+	}
+}
+
 // program returns all entities, those of the builtin package first.
 func (r *resolver) program() []api.Entity {
 	p := r.entities(r.builtin[0])
@@ -18,14 +32,17 @@ func (r *resolver) program() []api.Entity {
 	return p
 }
 
-// entities returns the entities of a module without its aliases, and refuses what is wrong in both.
+// entities returns the entities of a module without its aliases.
 func (r *resolver) entities(m *module) []api.Entity {
 	var l []api.Entity
 	for _, d := range m.all {
 		r.place = &place{module: m, params: set(d.bounds), isAlias: d.kind == 0}
-		if d.kind == 0 {
+		switch {
+		case d.kind == 0 && r.refusing:
 			r.bounds(d.tree.kids[2])
 			r.typ(d.tree.kids[3])
+			continue
+		case d.kind == 0:
 			continue
 		}
 		e := r.entity(d)

@@ -52,6 +52,7 @@ func Resolve(l []Source, flags []string) (p []api.Entity, f Fault, e api.Errno) 
 	r := newResolver(l, flags)
 	r.declare()
 	r.refuseCycles()
+	r.refuse()
 	p = r.program()
 	if !isListed(p) {
 		return nil, Fault{}, api.ErrFull

@@ -2,6 +2,7 @@ package names
 
 import (
 	"reflect"
+	"strconv"
 	"strings"
 	"testing"
 
@@ -243,6 +244,31 @@ func TestAliases(t *testing.T) {
 	check(t, "class ref p.C is p.I ref is p.J ref\ninterface ref p.I\ninterface ref p.J", source{"p", aliases + "class C is Both interface I interface J"})
 	check(t, "class ref q.C; let a: (q.D ref | p.D ref)\nclass ref q.D\nclass ref p.D\nclass ref p.E", source{"q", "use \"p\" class C let a: p.X[D] class D"}, source{"p", "type X[A] is (A | Y) type Y is D class D class E"})
 	check(t, "interface ref p.C[A: ($A | U8 val)]; let f: U8 val", source{"p", "type T[X] is (X | U8) interface C[A: T[A]] let f: U8"})
+}
+
+// TestLargeAliases has aliases whose types are far larger than their text: that is no matter where they do not stand in what is returned.
+func TestLargeAliases(t *testing.T) {
+	for _, form := range []struct{ first, next, use string }{
+		{"type A0 is U8 ", "type A# is (A@ | A@) ", "A70"},
+		{"type A0[X] is X ", "type A#[X] is (A@[X], A@[(X | U8)]) ", "A70[U8]"},
+		{"type A0 is U8 ", "type A# is this->Array[(A@ & A@)] ", "A70"},
+	} {
+		text := form.first
+		for i := range 70 {
+			text += strings.NewReplacer("#", strconv.Itoa(i+1), "@", strconv.Itoa(i)).Replace(form.next)
+		}
+		text += "type Last[X] is U8 type Second[X, Y] is Y "
+		check(t, "class ref p.C; let x: U8 val; let y: Bool val", source{"p", text + "class C let x: Last[" + form.use + "] let y: Second[(U8 | " + form.use + "), Bool]"})
+		for wrong, path := range map[string][]int{"class C let x: " + form.use + " let y: Z": {73, 5, 1}, "class C let x: " + form.use + " let y: " + form.use + "->Z": {73, 5, 1, 0}, "class C let x: Second[" + form.use + ", Z]": {73, 4, 1, 3}, "class C let x: " + form.use + " type B is Z": {74, 3}} {
+			code := api.ErrScope
+			if len(path) == 4 && path[1] == 5 {
+				code = ErrKind
+			}
+			if _, f, e := Resolve(sources(t, source{"p", text + wrong}), nil); e != code || !reflect.DeepEqual(f, Fault{0, path}) {
+				t.Errorf("%s: error %d at %v", wrong, e, f)
+			}
+		}
+	}
 }
 
 func TestVisible(t *testing.T) {

@@ -20,14 +20,22 @@ func (r *resolver) typ(t *tree) api.Type {
 		return r.compound(api.TypeTuple, t)
 	case syntax.ArrowType:
 		left := r.left(t.kids[0])
-		return api.Type{Kind: api.TypeArrow, Args: []api.Type{left, r.typ(t.kids[1])}}
+		return r.made(api.Type{Kind: api.TypeArrow, Args: []api.Type{left, r.typ(t.kids[1])}})
 	}
 	r.fail(t, ErrKind)
 	return api.Type{}
 }
 
 func (r *resolver) compound(kind int, t *tree) api.Type {
-	return api.Type{Kind: kind, Args: r.types(t.kids)}
+	return r.made(api.Type{Kind: kind, Args: r.types(t.kids)})
+}
+
+// made returns a type; while errors are looked for it has no Args, since aliases of aliases may be far larger than all that is written.
+func (r *resolver) made(t api.Type) api.Type {
+	if r.refusing {
+		t.Args = nil
+	}
+	return t
 }
 
 func (r *resolver) types(l []*tree) []api.Type {
@@ -107,14 +115,30 @@ func (r *resolver) namedType(t *tree, constraint bool) api.Type {
 	if len(args) != len(d.bounds) {
 		r.fail(t, ErrArity)
 	}
-	types := r.types(args)
 	if d.kind == 0 {
-		return substitute(r.expand(d), d.bounds, types)
+		return r.standing(d, args)
 	}
 	if c == api.CapNone {
 		c = d.cap
 	}
-	return api.Type{Kind: api.TypeName, Name: d.name, Cap: c, Mark: mark, Args: types}
+	return r.made(api.Type{Kind: api.TypeName, Name: d.name, Cap: c, Mark: mark, Args: r.types(args)})
+}
+
+// standing returns what stands in the place of an alias with arguments; those that it does not use are looked at for their errors alone.
+func (r *resolver) standing(d *declared, args []*tree) api.Type {
+	t := r.expand(d)
+	types := make([]api.Type, len(args))
+	for i, a := range args {
+		if r.refusing || uses(t, d.bounds[i]) {
+			types[i] = r.typ(a)
+		}
+	}
+	return substitute(t, d.bounds, types)
+}
+
+// uses reports whether a type parameter is in a type.
+func uses(t api.Type, param string) bool {
+	return t.Kind == api.TypeParam && t.Name == param || slices.ContainsFunc(t.Args, func(a api.Type) bool { return uses(a, param) })
 }
 
 // expand returns the type of an alias, with its own type parameters; the zero Type, if it is wrong: then it is refused where it is declared.
