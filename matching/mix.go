@@ -256,7 +256,7 @@ func (s *space) hasNew(q mixture) bool {
 	}
 	l := s.sided(q)
 	behind := func(a atom) bool { return s.has(q.behind(l, a)) }
-	return slices.ContainsFunc(s.leafAtoms(l), behind) || slices.ContainsFunc(s.tupleAtoms(l), behind)
+	return slices.ContainsFunc(s.leafAtoms(l), behind) || s.hasNested(q, l)
 }
 
 // first returns the first value of a mixture of sets, in the order of its normal form.

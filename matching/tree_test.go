@@ -720,3 +720,100 @@ func anyTree(m maker, depth int) Tree {
 	}
 	return x
 }
+
+// box makes a tuple of tuples of some leaves.
+func (m maker) box(outer, inner int) Pattern {
+	var kids []Pattern
+	for range outer {
+		var l []Pattern
+		for range inner {
+			mask := 1 + m.pick(1<<m.leaves-1)
+			var some []int
+			for n := range m.leaves {
+				if mask>>n&1 == 1 {
+					some = append(some, n)
+				}
+			}
+			l = append(l, of(some...))
+		}
+		kids = append(kids, tup(l...))
+	}
+	return tup(kids...)
+}
+
+// TestNested compares matches of tuples of tuples, many of which overlap, with all values.
+func TestNested(t *testing.T) {
+	exhaustive, never := 0, 0
+	for seed := range uint64(3000) {
+		m := maker{sample.Source(seed), 2 + int(seed%2)}
+		outer, inner := 2+m.pick(2), 2
+		full := slices.Repeat([]Pattern{of(all()[:m.leaves]...)}, inner)
+		operand := tup(slices.Repeat([]Pattern{tup(full...)}, outer)...)
+		if seed%3 == 0 {
+			operand = or(m.box(outer, inner), m.box(outer, inner), m.box(outer, inner))
+		}
+		var l []Case
+		for range 1 + m.pick(12) {
+			var p Pattern
+			for range 1 + m.pick(4) {
+				p = or(p, m.box(outer, inner))
+			}
+			l = append(l, Case{p, m.pick(5) == 0})
+		}
+		values, whole := every(operand)
+		if !whole {
+			continue
+		}
+		reaches(t, m.leaves, operand, l, values)
+		if ok, _, _ := Exhaustive(m.leaves, operand, l); ok {
+			exhaustive++
+		}
+		if l, _ := Unreachable(m.leaves, operand, l); len(l) > 0 {
+			never++
+		}
+	}
+	if exhaustive < 100 || never < 300 {
+		t.Errorf("%d are exhaustive, %d have unreachable cases", exhaustive, never)
+	}
+}
+
+// TestLargeNested has 64 cases of tuples in tuples in tuples over 200 leaves.
+func TestLargeNested(t *testing.T) {
+	for seed := range uint64(6) {
+		m := maker{sample.Source(seed), api.MaxUnits}
+		leaves := func() Pattern {
+			l := all()
+			return of(slices.DeleteFunc(l, func(int) bool { return m.pick(4) > 0 })...)
+		}
+		var nested func(depth int) Pattern
+		nested = func(depth int) Pattern {
+			if depth == 1 {
+				return leaves()
+			}
+			return tup(nested(depth-1), nested(depth-1))
+		}
+		var l []Case
+		for range 64 {
+			p := or(nested(4), nested(3), nested(4), nested(3), nested(2))
+			l = append(l, on(p))
+		}
+		whole := of(all()...)
+		whole = or(whole, tup(whole, whole))
+		whole = or(whole, tup(whole, whole))
+		whole = tup(whole, whole)
+		if never, e := Unreachable(api.MaxUnits, whole, append(l, l[7], on(whole), l[9])); e != api.ErrSize || len(never) > 0 {
+			t.Errorf("67 cases: %v, error %d", never, e)
+		}
+		if never, e := Unreachable(api.MaxUnits, whole, append(l[:61:61], l[7], on(whole), l[9])); e != api.OK || !slices.Equal(never, []int{61, 63}) {
+			t.Errorf("seed %d: Unreachable: %v, error %d", seed, never, e)
+		}
+		for i, c := range l {
+			if ok, e := Within(api.MaxUnits, whole, c.Pattern); !ok || e != api.OK {
+				t.Errorf("seed %d: Within of the case %d: %v, error %d", seed, i, ok, e)
+			}
+		}
+		if ok, _, e := Exhaustive(api.MaxUnits, whole, append(l[:62:62], on(whole))); !ok || e != api.OK {
+			t.Errorf("seed %d: Exhaustive: %v, error %d", seed, ok, e)
+		}
+	}
+}
