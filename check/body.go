@@ -86,7 +86,7 @@ func Method(p []api.Entity, entity, method int) (b Body, f Fault, e api.Errno) {
 	if isNone(m.Body) {
 		return b, Fault{}, api.OK
 	}
-	w := walker{p: p, entity: owner, method: m, rules: rules(), consumed: consumedIn(m.Body), locals: c.Locals}
+	w := walker{p: p, owner: owner, method: m, rules: rules(), consumed: consumedIn(m.Body), locals: c.Locals}
 	found := w.walk(c, m.Body, nil)
 	if hasResult(m) {
 		result, e := types.Self(m.Result, m.Cap, api.Plain)
@@ -114,7 +114,7 @@ func must(path []int, e api.Errno) {
 // were declared until now, how many regions there were, and the paths of what may end with an error.
 type walker struct {
 	p        []api.Entity
-	entity   api.Entity
+	owner    api.Entity
 	method   api.Method
 	rules    ruleTable
 	consumed map[string]bool
@@ -149,7 +149,7 @@ func (w *walker) walk(c Context, x api.Expr, path []int) api.Type {
 	if x.Op == api.OpVar || x.Op == api.OpLet {
 		w.declare(c, x, len(x.Kids) > 0)
 	}
-	q := &place{Context: c, Expr: x, p: w.p, entity: w.entity, method: w.method, kids: kids}
+	q := &place{Context: c, Expr: x, p: w.p, owner: w.owner, method: w.method, kids: kids}
 	t, e := q.apply(w.rules)
 	must(path, e)
 	if q.partial {

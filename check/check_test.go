@@ -11,7 +11,7 @@ import (
 
 // TestCheck: programs of texts, of which all bodies are told, in order.
 func TestCheck(t *testing.T) {
-	for _, s := range []string{pony.Cells, "actor Main\n  new create(env: Env) => env.out.print(\"hi\")"} {
+	for _, s := range append(pony.Texts(), "actor Main\n  new create(env: Env) => env.out.print(\"hi\")") {
 		p := pony.Program(s)
 		c, f, e := Check(p)
 		if e != api.OK || !sameFault(f, Fault{}) {

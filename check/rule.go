@@ -16,7 +16,7 @@ type place struct {
 	Context
 	api.Expr
 	p       []api.Entity
-	entity  api.Entity
+	owner   api.Entity
 	method  api.Method
 	kids    []api.Type
 	partial bool
@@ -49,7 +49,7 @@ func Rule(p []api.Entity, c Context, x api.Expr, kids []api.Type) (api.Type, api
 	if !isShaped(x) {
 		return api.Type{}, api.ErrForm
 	}
-	q := &place{Context: c, Expr: x, p: p, entity: entity, method: m, kids: kids}
+	q := &place{Context: c, Expr: x, p: p, owner: entity, method: m, kids: kids}
 	t, e := q.apply(rules())
 	return copied(t), e
 }
@@ -141,7 +141,7 @@ func (q *place) consume() (api.Type, api.Errno) {
 }
 
 func (q *place) this() (api.Type, api.Errno) {
-	t, e := types.Aliased(named(q.entity.Name, receiver(q.entity, q.method)))
+	t, e := types.Aliased(named(q.owner.Name, receiver(q.owner, q.method)))
 	if e == api.OK && len(q.Regions) > 0 && !types.Sendable(t) {
 		e = ErrSend
 	}

@@ -311,6 +311,16 @@ func TestComplete(t *testing.T) {
 	})
 }
 
+// TestTexts: P14.2 of programs of texts.
+func TestTexts(t *testing.T) {
+	for _, text := range pony.Texts() {
+		p := pony.Program(text)
+		if f, e := Verify(p, certified(t, p)); e != api.OK {
+			t.Errorf("error %d at %v of %s", e, f, text)
+		}
+	}
+}
+
 // TestRight: P14.3 and P14.5: of certificates in which some types are others.
 func TestRight(t *testing.T) {
 	took, refused := 0, 0
