@@ -195,7 +195,7 @@ func TestTypesThemselves(t *testing.T) {
 		e    api.Errno
 		path []int
 	}{
-		{0, wrong, api.ErrForm, nil}, {1, wrong, api.ErrForm, []int{0}}, {3, wrong, api.ErrForm, []int{0, 1}}, {4, api.Type{Name: "x"}, api.ErrForm, []int{1}}, {4, api.Type{Args: []api.Type{{}}}, api.ErrForm, []int{1}}, {2, api.Type{Cap: 1}, api.ErrForm, []int{0, 0}},
+		{0, wrong, api.ErrForm, nil}, {1, wrong, api.ErrForm, []int{0}}, {3, wrong, api.ErrForm, []int{0, 1}}, {4, api.Type{Name: "x"}, api.ErrForm, []int{1}}, {4, api.Type{Args: []api.Type{{}}}, api.ErrForm, []int{1}}, {2, api.Type{Cap: 1}, api.ErrForm, []int{0, 0}}, {3, api.Type{Args: slices.Repeat([]api.Type{{}}, 400)}, api.ErrForm, []int{0, 1}},
 		{2, api.Type{Kind: api.TypeTuple, Args: slices.Repeat([]api.Type{{}}, 400)}, api.ErrSize, []int{0, 0}}, {2, api.Type{Args: []api.Type{}}, ErrClaim, []int{0, 0}}, {2, typ("$A"), ErrClaim, []int{0, 0}}, {4, typ("U8 val"), api.ErrScope, []int{1}},
 	} {
 		l := typs("U8 val; U8 val; U8 val; U8 val; -")

@@ -11,6 +11,7 @@ import (
 	. "hackamore/derive"
 	"hackamore/internal/sample"
 	"hackamore/names"
+	"hackamore/types"
 )
 
 // TestGarbage: P1 and P2: for programs, certificates and texts of any form there is a result, again the same one.
@@ -84,5 +85,49 @@ func TestTwiceTypes(t *testing.T) {
 	}
 	if _, e := Parse("body 0 0\n" + strings.Repeat("(", 5000)); e != api.ErrForm {
 		t.Errorf("Parse: error %d", e)
+	}
+}
+
+// TestKindless: P14.1: a type of the Kind 0 that is not zero has ErrForm, at and beyond the limits of depth and size, also where it
+// is written small but is large; with a Kind it has the error of layer 8.
+func TestKindless(t *testing.T) {
+	deep := func(n int) api.Type {
+		x := api.Type{}
+		for range n - 1 {
+			x = api.Type{Args: []api.Type{x}}
+		}
+		return x
+	}
+	twice := typ("U8 val")
+	for range 60 {
+		twice = api.Type{Args: []api.Type{twice, twice}}
+	}
+	p, right := cell(), typ("main.Cell box")
+	for name, x := range map[string]api.Type{
+		"capped": {Cap: api.Val}, "marked": {Mark: api.Ephemeral}, "named": {Name: "x"}, "at the depth": deep(types.MaxDepth), "too deep": deep(types.MaxDepth + 1), "far too deep": deep(500),
+		"at the size": {Args: make([]api.Type, types.MaxNodes-1)}, "too large": {Args: make([]api.Type, types.MaxNodes)}, "an Arg too deep": {Args: []api.Type{right, deep(types.MaxDepth)}}, "an Arg too large": {Args: []api.Type{{Kind: api.TypeTuple, Args: make([]api.Type, 400)}}}, "written small": twice,
+	} {
+		testKindless(t, name, p, x, right, api.ErrForm)
+		x.Kind = api.TypeTuple
+		testKindless(t, name+", a tuple", p, x, right, types.Check(x))
+	}
+}
+
+// testKindless asks each function for the error of a type that is claimed for the second expression of the one method of a program.
+func testKindless(t *testing.T, name string, p []api.Entity, x, right api.Type, want api.Errno) {
+	t.Helper()
+	c := certificate(body(0, 0, right, x))
+	fault := check.Fault{Path: []int{0}}
+	if f, e := Body(p, c.Bodies[0]); e != want || !same(f, fault) {
+		t.Errorf("Body, %s: error %d at %v", name, e, f)
+	}
+	if f, e := Verify(p, c); e != want || !same(f, fault) {
+		t.Errorf("Verify, %s: error %d at %v", name, e, f)
+	}
+	if s, e := Text(c); e != want || s != "" {
+		t.Errorf("Text, %s: %q, error %d", name, s, e)
+	}
+	if d, e := Weaker(certificate(body(0, 0, right, right)), 0, 1, x); e != want || len(d.Bodies) > 0 {
+		t.Errorf("Weaker, %s: error %d", name, e)
 	}
 }

@@ -23,6 +23,7 @@ func TestText(t *testing.T) {
 	wrong := api.Type{Kind: api.TypeName}
 	large := api.Type{Kind: api.TypeTuple, Args: slices.Repeat([]api.Type{{Kind: api.TypeName, Name: strings.Repeat("x", 300), Cap: api.Val}}, 64)}
 	larger := api.Type{Kind: api.TypeTuple, Args: []api.Type{large, large}}
+	wide, kindless := api.Type{Kind: api.TypeTuple, Args: make([]api.Type, 400)}, api.Type{Args: make([]api.Type, 400)}
 	for _, c := range []struct {
 		c    check.Certificate
 		want string
@@ -31,7 +32,7 @@ func TestText(t *testing.T) {
 		{certificate(), "", api.OK}, {certificate(body(0, 0)), "body 0 0\n", api.OK}, {certificate(body(12, 345, typ("U8 val"), api.Type{}, typ("(U8 val | None val)")), body(0, 7, api.Type{})), "body 12 345\nU8 val\n-\n(U8 val | None val)\nbody 0 7\n-\n", api.OK},
 		{certificate(body(0, 0, odd, typ("body ref"), typ(`"-" ref`))), "body 0 0\n\"a\\nb\" iso!\nbody ref\n\"-\" ref\n", api.OK}, {certificate(body(3, 1), body(3, 1), body(0, 0)), "body 3 1\nbody 3 1\nbody 0 0\n", api.OK},
 		{certificate(body(-1, 0)), "", api.ErrRange}, {certificate(body(0, -1)), "", api.ErrRange}, {certificate(body(0, 0, wrong), body(0, -1)), "", api.ErrRange}, {certificate(body(0, 0, typ("U8 val"), wrong)), "", api.ErrForm}, {certificate(body(0, 0, api.Type{Name: "x"})), "", api.ErrForm},
-		{certificate(body(0, 0, api.Type{Args: slices.Repeat([]api.Type{{}}, 400)}), body(0, 1, wrong)), "", api.ErrSize}, {certificate(body(0, 0, larger)), "", api.ErrSize}, {certificate(body(0, 0, larger, wrong)), "", api.ErrForm}, {certificate(body(0, 0, larger, api.Type{})), "", api.ErrSize},
+		{certificate(body(0, 0, wide), body(0, 1, wrong)), "", api.ErrSize}, {certificate(body(0, 0, wide, kindless)), "", api.ErrSize}, {certificate(body(0, 0, kindless), body(0, 1, wide)), "", api.ErrForm}, {certificate(body(0, 0, larger)), "", api.ErrSize}, {certificate(body(0, 0, larger, wrong)), "", api.ErrForm}, {certificate(body(0, 0, larger, api.Type{})), "", api.ErrSize},
 		{certificate(body(0, 0, slices.Repeat([]api.Type{large}, 52)...)), "", api.ErrSize}, {certificate(slices.Repeat([]check.Body{body(0, 0)}, 111112)...), "", api.ErrSize},
 	} {
 		if s, e := Text(c.c); s != c.want || e != c.e {
@@ -154,7 +155,7 @@ func TestWeaker(t *testing.T) {
 	}{
 		{0, 1, typ("None val"), "body 3 1\nU8 val\nNone val\nbody 4 2\nbody 5 3\n-\n", api.OK}, {0, 0, api.Type{}, "body 3 1\n-\n(U8 val, None val)\nbody 4 2\nbody 5 3\n-\n", api.OK}, {2, 0, typ("$A"), "body 3 1\nU8 val\n(U8 val, None val)\nbody 4 2\nbody 5 3\n$A\n", api.OK},
 		{-1, 0, typ("U8 val"), "", api.ErrRange}, {3, 0, typ("U8 val"), "", api.ErrRange}, {1, 0, typ("U8 val"), "", api.ErrRange}, {0, -1, typ("U8 val"), "", api.ErrRange}, {0, 2, typ("U8 val"), "", api.ErrRange}, {0, 2, api.Type{Kind: 9}, "", api.ErrRange},
-		{0, 0, api.Type{Kind: 9}, "", api.ErrForm}, {0, 0, api.Type{Name: "x"}, "", api.ErrForm}, {0, 0, api.Type{Args: slices.Repeat([]api.Type{{}}, 400)}, "", api.ErrSize},
+		{0, 0, api.Type{Kind: 9}, "", api.ErrForm}, {0, 0, api.Type{Name: "x"}, "", api.ErrForm}, {0, 0, api.Type{Kind: api.TypeTuple, Args: make([]api.Type, 400)}, "", api.ErrSize}, {0, 0, api.Type{Args: make([]api.Type, 400)}, "", api.ErrForm}, {0, 2, api.Type{Args: make([]api.Type, 400)}, "", api.ErrRange},
 	} {
 		d, e := Weaker(c, w.body, w.expr, w.typ)
 		if s, _ := Text(d); s != w.want || e != w.e {
