@@ -66,7 +66,7 @@ func (r *rewriter) assign(t *tree) api.Node {
 	return assign(n, r.expr(right))
 }
 
-// update rewrites an assignment to a call.
+// update rewrites an assignment to a call. The mark of the call that is assigned to is not one of the call of update.
 func (r *rewriter) update(t *tree) api.Node {
 	left := t.kids[0]
 	if r.known(left.kids[0]) != nil {
@@ -75,7 +75,7 @@ func (r *rewriter) update(t *tree) api.Node {
 	head := r.expr(left.kids[0])
 	args := r.unnamed(left.kids[2:])
 	args = append(args, r.expr(t.kids[1]))
-	return invoke(dot(head, "update"), left.kids[1].text, args)
+	return call(head, "update", args...)
 }
 
 // unnamed rewrites arguments, of which none may have a name.
