@@ -160,7 +160,7 @@ func TestFuel(t *testing.T) {
 		p := pony.Program(s)
 		pick := sample.Source(uint64(i))
 		var script []int
-		for range 40 {
+		for range pick(12) { // behind the script the first actor that has mail is chosen
 			script = append(script, pick(9)-3)
 		}
 		choose := func(n int) int {

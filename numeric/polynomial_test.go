@@ -55,7 +55,7 @@ func TestProduct(t *testing.T) {
 		a, b, want []Number
 		e          api.Errno
 	}{
-		{ints(1, 1), ints(1, 1), ints(1, 2, 1), api.OK}, {nil, nil, nil, api.OK}, {nil, ints(1), nil, api.OK}, {ints(1), nil, nil, api.OK}, {ints(2), ints(3), ints(6), api.OK},
+		{ints(1, 1), ints(1, 1), ints(1, 2, 1), api.OK}, {nil, nil, nil, api.OK}, {nil, ints(1), nil, api.OK}, {nil, ints(1, 2, 3), nil, api.OK}, {ints(1, 2), nil, nil, api.OK}, {ints(2), ints(3), ints(6), api.OK},
 		{make([]Number, 65), ints(1), nil, api.ErrSize}, {ints(1), make([]Number, 65), nil, api.ErrSize}, {nil, make([]Number, 65), nil, api.ErrSize}, {make([]Number, 100), nil, nil, api.ErrSize},
 		{make([]Number, 64), make([]Number, 64), make([]Number, 127), api.OK}, {[]Number{of(0, 1)}, []Number{of(0, 1), of(1, 0)}, []Number{of(-1, 0), of(0, 1)}, api.OK},
 		{[]Number{{1 << 31, 1 << 31}}, ints(1), []Number{of(0, 0)}, api.OK}, // the sum begins with 0

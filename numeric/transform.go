@@ -60,7 +60,10 @@ func (t transformer) twiddles(n int) []complex64 {
 // everySecond hands on the elements of a list from an index on, leaving out each second one.
 func everySecond(l []complex64, from int) iter.Seq[complex64] {
 	return func(yield func(complex64) bool) {
-		for i := from; i < len(l) && yield(l[i]); i += 2 {
+		for i := from; i < len(l); i += 2 {
+			if !yield(l[i]) {
+				return
+			}
 		}
 	}
 }

@@ -49,7 +49,12 @@ func copiedMessage(m api.Message) api.Message {
 	return m
 }
 
-// copiedState returns a state that shares nothing that a world changes, and the parts of the program alone.
+func copiedSend(x api.Send) api.Send {
+	x.Args = slices.Clone(x.Args)
+	return x
+}
+
+// copiedState returns a state that shares nothing that a world changes: no more than the parts of its program, and the texts of what was sent.
 func copiedState(s State) State {
 	return State{
 		Program: slices.Clone(s.Program),
@@ -60,10 +65,7 @@ func copiedState(s State) State {
 			c.Fields = mapped(c.Fields, copied)
 			return c
 		}),
-		Trace: mapped(s.Trace, func(x api.Send) api.Send {
-			x.Args = slices.Clone(x.Args)
-			return x
-		}),
+		Trace:  slices.Clone(s.Trace),
 		Output: slices.Clone(s.Output),
 	}
 }

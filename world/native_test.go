@@ -60,6 +60,7 @@ func TestCallNumbers(t *testing.T) {
 	f64, _ := num.Parse("F64", "1.5")
 	big, _ := num.Parse("I128", "-170141183460469231731687303715884105728")
 	testCalls(t, w, []called{
+		{number("I8", 255), "add", list(number("I8", 3)), "I8 2", 0}, {number("I8", 128), "string", nil, `"-128"#0`, 0},
 		{u8(250), "add", list(u8(10)), "U8 4", 0}, {u8(250), "add_partial", list(u8(10)), "raised", 0}, {u8(2), "lt", list(u8(3)), "true", 0}, {f64, "mul", list(f64), "F64 2.25", 0}, {u8(7), "f64", nil, "F64 7.0", 0},
 		{truth(1), "op_and", list(truth(0)), "false", 0}, {truth(1), "op_not", nil, "false", 0},
 		{u8(7), "string", nil, `"7"#0`, 0}, {f64, "string", nil, `"1.5"#0`, 0}, {big, "string", nil, `"-170141183460469231731687303715884105728"#0`, 0}, {truth(1), "string", nil, `"true"#0`, 0}, {truth(0), "string", nil, `"false"#0`, 0},

@@ -200,6 +200,23 @@ func TestSharedTuples(t *testing.T) {
 	if _, e := w.Show(cell); e != api.ErrDepth { // the tuple has 100 levels, and stands in the object
 		t.Errorf("Show: error %d", e)
 	}
+	inner := double(60)
+	outer := func(levels int) api.Value { // the inner tuple stands in it twice, the second time deeper
+		v := inner
+		for range levels - 1 {
+			v = tuple(v, u8(1))
+		}
+		return tuple(inner, v)
+	}
+	for levels, want := range map[int]api.Errno{1: api.OK, 39: api.OK, 40: api.OK, 41: ErrBroken, 42: ErrBroken, 60: ErrBroken} {
+		if _, e := w.Set(cell, "v", outer(levels)); e != want {
+			t.Errorf("Set, %d levels around 60: error %d", levels, e)
+		}
+		if _, e := w.Set(cell, "v", tuple(inner, outer(levels-1))); e != want {
+			t.Errorf("Set, %d levels around 60: error %d", levels, e)
+		}
+	}
+	must(t)(w.Set(cell, "v", double(100)))
 	if !Same(double(100), double(100)) || Same(double(100), double(99)) {
 		t.Error("Same")
 	}
@@ -326,6 +343,23 @@ func TestMemory(t *testing.T) {
 	}
 	if !alike(v.State(), ahead) || len(ahead.Cells) != 3 || len(ahead.Actors[0].Mail) != 0 {
 		t.Error("a state that was handed out changed")
+	}
+	pair = tuple(u8(1), u8(2))
+	for _, c := range []struct {
+		name string
+		args []api.Value
+	}{{"push", []api.Value{pair}}, {"update", []api.Value{index(0), pair}}} {
+		if _, _, e := w.Call(1, list, c.name, c.args); e != api.OK {
+			t.Fatal(e)
+		}
+	}
+	pair.Kids[0] = u8(9)
+	at, _, _ := w.Call(1, list, "apply", []api.Value{index(0)})
+	at.Kids[1] = u8(9)
+	field := must(t)(w.Get(cell, "v"))
+	field.Kids[1] = u8(9)
+	if got, _ := w.Show(tuple(cell, list)); got != "(main.Cell#0{v=(U8 1, U8 2), next=none}, Array[U8 val]#1{(U8 1, U8 2), U8 4, (U8 1, U8 2)})" {
+		t.Errorf("a tuple changed: %s", got)
 	}
 	s := w.State()
 	s.Cells[3].Fields[0], s.Actors[0].Mail[0].Args[0], s.Program[0].Name = u8(77), u8(77), "changed"
