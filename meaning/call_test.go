@@ -1,6 +1,9 @@
 package meaning_test
 
 import (
+	"reflect"
+	"slices"
+	"strconv"
 	"strings"
 	"testing"
 
@@ -190,5 +193,70 @@ func TestCall(t *testing.T) {
 	}
 	if e := world.Check(w.State()); e != api.OK {
 		t.Errorf("error %d", e)
+	}
+}
+
+// typed returns an expression whose calls all have type arguments.
+func typed(e api.Expr, l []api.Type) api.Expr {
+	e.Types = slices.Clone(e.Types)
+	if e.Op == api.OpCall || e.Op == api.OpNew {
+		e.Types = append(e.Types, l...)
+	}
+	e.Kids = slices.Clone(e.Kids)
+	for i, k := range e.Kids {
+		e.Kids[i] = typed(k, l)
+	}
+	return e
+}
+
+// TestTypeArguments: a call may have type arguments, however many and whatever they are; they change nothing.
+func TestTypeArguments(t *testing.T) {
+	p := pony.Program(text)
+	cell := makes("of: main.Cell", byte8("7"))
+	for i, l := range [][]api.Type{pony.Types("U8 val"), pony.Types("main.Cell ref", "(U8 val | None val)"), {{}, {Kind: 99, Name: "Nope"}}, make([]api.Type, 70)} {
+		for j, e := range []api.Expr{
+			call("add", byte8("1"), byte8("2")), call("add_partial", byte8("250"), byte8("10")), call("nope", byte8("1")), call("add", byte8("1")), call("string", yes()), call("get", cell), call("two", cell, byte8("1"), call("get", cell)), call("risky", cell, byte8("0")), call("create", cell), call("get", byte8("1")),
+			call("go", makes("create: main.Act", byte8("1")), byte8("2")), call("x", expr(api.OpTuple, "", yes(), cell)), makes("create: U8", byte8("5")), makes("create: U8", yes()), makes("of: main.Cell"), makes("nope: main.Cell"), makes("create: main.Act", byte8("3")), makes("go: main.Act", byte8("3")), makes("create: main.Maths"),
+			makes("create: main.Named"), makes("create: Array[U8 val]"), makes("create: Nope"), makes("of: main.Cell", fail()),
+		} {
+			checkAlike(t, p, e, typed(e, l), strconv.Itoa(i)+", "+strconv.Itoa(j))
+		}
+	}
+	all := pony.Types("U8 val", "main.Cell ref")
+	testEval(t, p, []evaluated{
+		{api.Expr{Op: api.OpCall, Text: "add", Types: all[:1], Kids: []api.Expr{byte8("1"), byte8("2")}}, "value U8 3", 3, ""}, {api.Expr{Op: api.OpNew, Text: "create", Types: pony.Types("U8 val", "U8 val"), Kids: []api.Expr{byte8("5")}}, "value U8 5", 2, ""},
+		{api.Expr{Op: api.OpNew, Text: "of", Types: pony.Types("main.Cell ref", "Nope val"), Kids: []api.Expr{byte8("5")}}, "value main.Cell#0{v=U8 5, next=none}", 0, ""}, {api.Expr{Op: api.OpNew, Text: "of", Types: pony.Types("Nope val", "main.Cell ref"), Kids: []api.Expr{byte8("5")}}, "wrong 191", 2, ""},
+		{api.Expr{Op: api.OpCall, Text: "add", Types: all}, "wrong 2", 1, ""}, {api.Expr{Op: api.OpCall, Text: "add"}, "wrong 2", 1, ""}, {api.Expr{Op: api.OpNew, Text: "create"}, "wrong 2", 1, ""}, {api.Expr{Op: api.OpNew, Text: "create", Kids: []api.Expr{push("1")}}, "wrong 2", 1, ""},
+	})
+}
+
+// checkAlike checks that two expressions come to the same, evaluated by themselves and in bodies.
+func checkAlike(t *testing.T, p []api.Entity, a, b api.Expr, where string) {
+	t.Helper()
+	eval := func(e api.Expr) (*world.World, any) {
+		w := begun(t, p)
+		return w, Eval(w, 1, act(1), e, locals("x", u8(1)), 100)
+	}
+	inCall := func(e api.Expr) (*world.World, any) {
+		w := begun(t, with(p, "main.Cell", "back", e))
+		v, _ := w.Make(1, "main.Cell")
+		return w, Call(w, 1, v, "back", []api.Value{u8(1)}, 100)
+	}
+	inStep := func(e api.Expr) (*world.World, any) {
+		w := begun(t, with(p, "main.Act", "go", e))
+		w.Send(api.Message{From: 1, To: 2, Name: "go", Args: []api.Value{u8(1)}})
+		used, end, ok := Step(w, 0, 100)
+		return w, []any{used, end, ok}
+	}
+	inRun := func(e api.Expr) (*world.World, any) {
+		s, end := Run(with(p, "main.Main", "create", e), nil, []int{1, 2}, 100)
+		return loaded(t, s), end
+	}
+	for i, f := range []func(api.Expr) (*world.World, any){eval, inCall, inStep, inRun} {
+		v, x := f(a)
+		w, y := f(b)
+		if !reflect.DeepEqual(x, y) || !sameState(v, w) {
+			t.Errorf("%s, way %d: %v without type arguments, %v with them", where, i, x, y)
+		}
 	}
 }

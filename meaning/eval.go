@@ -10,18 +10,19 @@ import (
 	"hackamore/world"
 )
 
-// shape says how many Kids an operation has, from and to, and how many Types.
-type shape struct{ least, most, types int }
+// shape says how many Kids an operation has, and how many Types, from and to.
+type shape struct{ least, most, types, mostTypes int }
 
 const many = 1 << 40
 
+// shapes says it as package api does: of an OpCall all Types are type arguments, of an OpNew those behind the first one, and nobody says how many there are.
 var shapes = [api.OpLast + 1]shape{
-	api.OpLit: {0, 0, 1}, api.OpLocal: {0, 0, 0}, api.OpThis: {0, 0, 0}, api.OpGet: {1, 1, 0}, api.OpSet: {2, 2, 0},
-	api.OpVar: {0, 1, 1}, api.OpLet: {0, 1, 1}, api.OpAssign: {1, 1, 0}, api.OpConsume: {0, 0, 0}, api.OpSeq: {0, many, 0},
-	api.OpIf: {3, 3, 0}, api.OpWhile: {3, 3, 0}, api.OpMatch: {1, many, 0}, api.OpCase: {2, 2, 1}, api.OpTry: {3, 3, 0},
-	api.OpError: {0, 0, 0}, api.OpReturn: {0, 1, 0}, api.OpBreak: {0, 0, 0}, api.OpContinue: {0, 0, 0}, api.OpCall: {1, many, 0},
-	api.OpNew: {0, many, 1}, api.OpRecover: {1, 1, 1}, api.OpTuple: {2, many, 0}, api.OpItem: {1, 1, 0}, api.OpIs: {2, 2, 0},
-	api.OpUnit: {0, 0, 1},
+	api.OpLit: {0, 0, 1, 1}, api.OpLocal: {0, 0, 0, 0}, api.OpThis: {0, 0, 0, 0}, api.OpGet: {1, 1, 0, 0}, api.OpSet: {2, 2, 0, 0},
+	api.OpVar: {0, 1, 1, 1}, api.OpLet: {0, 1, 1, 1}, api.OpAssign: {1, 1, 0, 0}, api.OpConsume: {0, 0, 0, 0}, api.OpSeq: {0, many, 0, 0},
+	api.OpIf: {3, 3, 0, 0}, api.OpWhile: {3, 3, 0, 0}, api.OpMatch: {1, many, 0, 0}, api.OpCase: {2, 2, 1, 1}, api.OpTry: {3, 3, 0, 0},
+	api.OpError: {0, 0, 0, 0}, api.OpReturn: {0, 1, 0, 0}, api.OpBreak: {0, 0, 0, 0}, api.OpContinue: {0, 0, 0, 0}, api.OpCall: {1, many, 0, many},
+	api.OpNew: {0, many, 1, many}, api.OpRecover: {1, 1, 1, 1}, api.OpTuple: {2, many, 0, 0}, api.OpItem: {1, 1, 0, 0}, api.OpIs: {2, 2, 0, 0},
+	api.OpUnit: {0, 0, 1, 1},
 }
 
 // isShaped reports whether an expression has as many Kids and Types as its operation has.
@@ -30,7 +31,8 @@ func isShaped(e api.Expr) bool {
 		return false
 	}
 	s := shapes[e.Op]
-	return len(e.Kids) >= s.least && len(e.Kids) <= s.most && len(e.Types) == s.types
+	kids, types := len(e.Kids), len(e.Types)
+	return kids >= s.least && kids <= s.most && types >= s.types && types <= s.mostTypes
 }
 
 func isNone(e api.Expr) bool { return e.Op == 0 }

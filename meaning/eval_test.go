@@ -168,20 +168,20 @@ func TestValues(t *testing.T) {
 // TestShapes: how many Kids and Types an operation has is asked ahead of all but the fuel.
 func TestShapes(t *testing.T) {
 	w := begun(t, pony.Program(text))
-	few := map[int][3]int{ // Kids from and to, Types
-		api.OpLit: {0, 0, 1}, api.OpLocal: {0, 0, 0}, api.OpThis: {0, 0, 0}, api.OpGet: {1, 1, 0}, api.OpSet: {2, 2, 0}, api.OpVar: {0, 1, 1}, api.OpLet: {0, 1, 1}, api.OpAssign: {1, 1, 0}, api.OpConsume: {0, 0, 0}, api.OpSeq: {0, 9, 0},
-		api.OpIf: {3, 3, 0}, api.OpWhile: {3, 3, 0}, api.OpMatch: {1, 9, 0}, api.OpCase: {2, 2, 1}, api.OpTry: {3, 3, 0}, api.OpError: {0, 0, 0}, api.OpReturn: {0, 1, 0}, api.OpBreak: {0, 0, 0}, api.OpContinue: {0, 0, 0}, api.OpCall: {1, 9, 0},
-		api.OpNew: {0, 9, 1}, api.OpRecover: {1, 1, 1}, api.OpTuple: {2, 9, 0}, api.OpItem: {1, 1, 0}, api.OpIs: {2, 2, 0}, api.OpUnit: {0, 0, 1},
+	few := map[int][4]int{ // Kids from and to, Types from and to
+		api.OpLit: {0, 0, 1, 1}, api.OpLocal: {0, 0, 0, 0}, api.OpThis: {0, 0, 0, 0}, api.OpGet: {1, 1, 0, 0}, api.OpSet: {2, 2, 0, 0}, api.OpVar: {0, 1, 1, 1}, api.OpLet: {0, 1, 1, 1}, api.OpAssign: {1, 1, 0, 0}, api.OpConsume: {0, 0, 0, 0}, api.OpSeq: {0, 9, 0, 0},
+		api.OpIf: {3, 3, 0, 0}, api.OpWhile: {3, 3, 0, 0}, api.OpMatch: {1, 9, 0, 0}, api.OpCase: {2, 2, 1, 1}, api.OpTry: {3, 3, 0, 0}, api.OpError: {0, 0, 0, 0}, api.OpReturn: {0, 1, 0, 0}, api.OpBreak: {0, 0, 0, 0}, api.OpContinue: {0, 0, 0, 0}, api.OpCall: {1, 9, 0, 9},
+		api.OpNew: {0, 9, 1, 9}, api.OpRecover: {1, 1, 1, 1}, api.OpTuple: {2, 9, 0, 0}, api.OpItem: {1, 1, 0, 0}, api.OpIs: {2, 2, 0, 0}, api.OpUnit: {0, 0, 1, 1},
 	}
 	for op := 1; op <= api.OpLast; op++ {
 		for kids := range 6 {
-			for types := range 3 {
-				e := api.Expr{Op: op, Text: "x", Types: pony.Types("None val", "None val")[:types]}
+			for types := range 4 {
+				e := api.Expr{Op: op, Text: "x", Types: pony.Types("None val", "None val", "U8 val")[:types]}
 				for range kids {
 					e.Kids = append(e.Kids, expr(api.OpReturn, ""))
 				}
 				s := few[op]
-				right := kids >= s[0] && kids <= s[1] && types == s[2] && op != api.OpCase
+				right := kids >= s[0] && kids <= s[1] && types >= s[2] && types <= s[3] && op != api.OpCase
 				o := Eval(w, 1, act(1), e, nil, 10)
 				isForm := o.Kind == Wrong && o.Code == api.ErrForm && o.Used == 1
 				if right == isForm && !(op == api.OpMatch && kids > 1) {

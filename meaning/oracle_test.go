@@ -79,13 +79,20 @@ func someNone(v api.Value) api.Value {
 // right reports whether there are as many Kids and Types as the chapter says.
 func (o *oracle) right(e api.Expr) bool {
 	kids, types := len(e.Kids), len(e.Types)
-	wanted := 0
 	switch e.Op {
-	case api.OpLit, api.OpVar, api.OpLet, api.OpNew, api.OpRecover, api.OpUnit:
-		wanted = 1
-	}
-	if types != wanted {
-		return false
+	case api.OpLit, api.OpVar, api.OpLet, api.OpRecover, api.OpUnit:
+		if types != 1 {
+			return false
+		}
+	case api.OpNew:
+		if types == 0 {
+			return false
+		}
+	case api.OpCall:
+	default:
+		if types > 0 {
+			return false
+		}
 	}
 	switch e.Op {
 	case api.OpLit, api.OpLocal, api.OpThis, api.OpConsume, api.OpError, api.OpBreak, api.OpContinue, api.OpUnit:
@@ -422,6 +429,15 @@ func (m wild) typ() api.Type {
 	return api.Type{Kind: api.TypeName, Name: m.one("U8 USize Bool None String main.Cell main.Dog main.Act main.Maths main.Named Any Array[U8 Nope") + "", Cap: api.Val}
 }
 
+// typeArguments returns those of a call, mostly none.
+func (m wild) typeArguments() []api.Type {
+	var l []api.Type
+	for range max(0, m.pick(6)-3) {
+		l = append(l, m.typ())
+	}
+	return l
+}
+
 func (m wild) leaf() api.Expr {
 	switch m.pick(12) {
 	case 0, 1, 2:
@@ -500,10 +516,12 @@ func (m wild) expr(depth int) api.Expr {
 	case 10:
 		return expr(api.OpGet, m.one("v v next n w"), m.receiver(depth))
 	case 11, 12, 13:
-		return m.calling(depth)
+		x := m.calling(depth)
+		x.Types = m.typeArguments()
+		return x
 	case 14:
 		x := makes(m.one("create of twice nope")+": x", m.many(depth, 0, 2)...)
-		x.Types[0] = m.typ()
+		x.Types = append([]api.Type{m.typ()}, m.typeArguments()...)
 		return x
 	case 15:
 		return expr(api.OpItem, m.one("0 1 2 x"), expr(api.OpTuple, "", m.many(depth, 2, 3)...))
