@@ -198,7 +198,7 @@ func TestShapes(t *testing.T) {
 // TestEval: its arguments.
 func TestEval(t *testing.T) {
 	w := begun(t, pony.Program(text))
-	if o := Eval(nil, 1, act(1), no, locals("x", u8(1)), 10); told(w, o) != "wrong 1" || o.Used != 0 {
+	if o := Eval(nil, 1, act(1), no, locals("x", u8(1)), 10); told(w, o) != "wrong 1; x=U8 1" || o.Used != 0 {
 		t.Errorf("nil: %v", o)
 	}
 	deep, wide := seq(), seq(make([]api.Expr, 0)...)
@@ -214,8 +214,8 @@ func TestEval(t *testing.T) {
 		want string
 		used int
 	}{
-		{deep, 1000, "value None; x=U8 1", 100}, {seq(deep), 1000, "wrong 2", 0}, {seq(deep), 0, "wrong 2", 0}, {wide, 10000, "value None; x=U8 1", 4000}, {seq(wide), 10000, "wrong 2", 0}, {seq(append(wide.Kids, no)...), 10000, "wrong 2", 0},
-		{api.Expr{Kids: []api.Expr{deep}}, 10, "wrong 2", 0}, {yes(), -1, "empty 10; x=U8 1", 0}, {yes(), 1 << 60, "value true; x=U8 1", 1}, {yes(), -1 << 60, "empty 10; x=U8 1", 0},
+		{deep, 1000, "value None; x=U8 1", 100}, {seq(deep), 1000, "wrong 2; x=U8 1", 0}, {seq(deep), 0, "wrong 2; x=U8 1", 0}, {wide, 10000, "value None; x=U8 1", 4000}, {seq(wide), 10000, "wrong 2; x=U8 1", 0}, {seq(append(wide.Kids, no)...), 10000, "wrong 2; x=U8 1", 0},
+		{api.Expr{Kids: []api.Expr{deep}}, 10, "wrong 2; x=U8 1", 0}, {yes(), -1, "empty 10; x=U8 1", 0}, {yes(), 1 << 60, "value true; x=U8 1", 1}, {yes(), -1 << 60, "empty 10; x=U8 1", 0},
 	} {
 		if o := Eval(w, 1, act(1), c.e, locals("x", u8(1)), c.fuel); told(w, o) != c.want || o.Used != c.used {
 			t.Errorf("%d: %s, used %d", i, told(w, o), o.Used)
@@ -224,6 +224,14 @@ func TestEval(t *testing.T) {
 	l := locals("a", u8(1), "b", u8(2), "a", u8(3), "c", u8(4), "b", u8(5), "", u8(6))
 	if o := Eval(w, 1, act(1), local("a"), l, 10); told(w, o) != "value U8 3; a=U8 3; c=U8 4; b=U8 5; =U8 6" {
 		t.Error(told(w, o))
+	}
+	for i, e := range []api.Expr{seq(deep), seq(wide)} { // refused, with those that were handed in
+		if o := Eval(w, 1, act(1), e, l, 10); told(w, o) != "wrong 2; a=U8 3; c=U8 4; b=U8 5; =U8 6" || o.Used != 0 {
+			t.Errorf("%d: %s, used %d", i, told(w, o), o.Used)
+		}
+		if o := Eval(w, 1, act(1), e, nil, 10); told(w, o) != "wrong 2" {
+			t.Errorf("%d without local variables: %s", i, told(w, o))
+		}
 	}
 	if o := Eval(w, 1, act(1), assign("b", byte8("9")), l, 10); told(w, o) != "value U8 5; a=U8 3; c=U8 4; b=U8 9; =U8 6" || l[4].Value.Lo != 5 || l[1].Value.Lo != 2 {
 		t.Error(told(w, o), l)
