@@ -1,10 +1,10 @@
 package lower
 
 import (
-	"slices"
 	"strconv"
 
 	"hackamore/api"
+	"hackamore/internal/same"
 	"hackamore/ssa"
 )
 
@@ -55,6 +55,7 @@ func lowered(f *facts, entity string, m api.Method) (out ssa.Func, e api.Errno) 
 	l.enter(l.failed)
 	l.end(ssa.End{Kind: ssa.Error})
 	l.storeEarly()
+	l.useNatives()
 	out.Blocks = l.blocks
 	out, e = ssa.Clean(out)
 	if e != api.OK {
@@ -115,15 +116,11 @@ func (l *lowerer) declared(name string, t api.Type) *variable {
 	v := l.variable(name)
 	if !known || !v.stored && v.param == nowhere {
 		v.typ = t
-	} else if !isSame(v.typ, t) {
+	} else if !same.Type(v.typ, t) {
 		v.typ = api.Type{}
 	}
 	v.stored = true
 	return v
-}
-
-func isSame(a, b api.Type) bool {
-	return a.Kind == b.Kind && a.Name == b.Name && a.Cap == b.Cap && a.Mark == b.Mark && slices.EqualFunc(a.Args, b.Args, isSame)
 }
 
 // store stores a value in a variable; it returns what this had, which is to be used only if there is no shadow.

@@ -112,7 +112,7 @@ func (b *builder) try(call ssa.Ins, raised *label) int {
 	return call.Result
 }
 
-// usedResults returns the values that are used.
+// used reports of each value whether it is used.
 func (b *builder) used() []bool {
 	used := make([]bool, len(b.types))
 	for _, x := range b.blocks {

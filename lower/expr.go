@@ -480,8 +480,8 @@ func (l *lowerer) creates(e api.Expr, _ bool) int {
 	if x.Kind == api.Primitive {
 		return l.unitOf(typ)
 	}
-	m, code := l.w.Method(typ, e.Text)
-	if code != api.OK || m.Kind != api.New || len(m.Params) != len(values) {
+	m, ok := l.facts.method(typ, e.Text)
+	if !ok || m.Kind != api.New || len(m.Params) != len(values) {
 		return l.never()
 	}
 	switch {

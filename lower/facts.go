@@ -1,26 +1,28 @@
 package lower
 
 import (
+	"iter"
 	"slices"
 
 	"hackamore/api"
 	"hackamore/num"
-	"hackamore/world"
 )
 
-// facts is what is known of a whole program: for each name of a method the actors of which it is a behaviour, and whether a value may have a function, or a method of the runtime, with this name; and the names of methods that may raise an error.
+// facts is what is known of a whole program: for each name of a method the actors of which it is a behaviour, and whether a value may have a function, or a method of the runtime, with this name; the names of methods that may raise an error; and the intrinsics.
 type facts struct {
-	w        *world.World
 	entities map[string]api.Entity
 	bes      map[string][]string
 	others   map[string]bool
 	raising  map[string]bool
+	known    map[intrinsic]signature
 }
 
-func factsOf(w *world.World, p []api.Entity) *facts {
-	f := &facts{w, map[string]api.Entity{}, map[string][]string{}, map[string]bool{}, map[string]bool{}}
+func factsOf(p []api.Entity) *facts {
+	f := &facts{entities: map[string]api.Entity{}, bes: map[string][]string{}, others: map[string]bool{}, raising: map[string]bool{}}
 	for _, x := range p {
-		f.entities[x.Name] = x
+		if _, ok := f.entities[x.Name]; !ok {
+			f.entities[x.Name] = x
+		}
 	}
 	for _, x := range p {
 		for _, m := range x.Methods {
@@ -31,15 +33,14 @@ func factsOf(w *world.World, p []api.Entity) *facts {
 		}
 	}
 	f.noteRuntime()
+	f.known = f.intrinsics()
 	return f
 }
 
 // note notes the methods that values of an entity have.
 func (f *facts) note(x api.Entity) {
 	for _, name := range f.names(x.Name) {
-		m, e := f.w.Method(x.Name, name)
-		switch {
-		case e != api.OK:
+		switch m, _ := f.method(x.Name, name); {
 		case m.Kind != api.Be:
 			f.others[name] = f.others[name] || hasBody(m)
 		case x.Kind == api.Actor:
@@ -51,7 +52,7 @@ func (f *facts) note(x api.Entity) {
 // noteRuntime notes the methods that the runtime gives.
 func (f *facts) noteRuntime() {
 	names := []string{"string", "size", "apply", "add", "eq", "ne", "lt", "le", "gt", "ge", "substring", "update", "push", "pop"}
-	if m, e := f.w.Method("Out", "print"); e != api.OK || m.Kind != api.Be {
+	if m, _ := f.method("Out", "print"); m.Kind != api.Be {
 		names = append(names, "print")
 	}
 	for _, raises := range []string{"apply", "update", "pop"} {
@@ -69,30 +70,55 @@ func (f *facts) noteRuntime() {
 	}
 }
 
+// each hands on an entity, and then what it provides, in depth, each one once, as world's Method goes through them.
+func (f *facts) each(entity string) iter.Seq[api.Entity] {
+	return func(yield func(api.Entity) bool) {
+		seen := map[string]bool{}
+		var walk func(name string) bool
+		walk = func(name string) bool {
+			x, ok := f.entities[name]
+			if !ok || seen[name] {
+				return true
+			}
+			seen[name] = true
+			if !yield(x) {
+				return false
+			}
+			for _, t := range x.Provides {
+				if t.Kind == api.TypeName && !walk(t.Name) {
+					return false
+				}
+			}
+			return true
+		}
+		walk(entity)
+	}
+}
+
+// method returns the method that world's Method finds.
+func (f *facts) method(entity, name string) (api.Method, bool) {
+	for x := range f.each(entity) {
+		for _, m := range x.Methods {
+			if m.Name == name {
+				return m, true
+			}
+		}
+	}
+	return api.Method{}, false
+}
+
 // names returns the names of the methods of an entity, in the order in which it, and then what it provides, name them first.
 func (f *facts) names(entity string) []string {
 	var l []string
-	seen, known := map[string]bool{}, map[string]bool{}
-	var walk func(name string)
-	walk = func(name string) {
-		x, ok := f.entities[name]
-		if !ok || seen[name] {
-			return
-		}
-		seen[name] = true
+	known := map[string]bool{}
+	for x := range f.each(entity) {
 		for _, m := range x.Methods {
 			if !known[m.Name] {
 				known[m.Name] = true
 				l = append(l, m.Name)
 			}
 		}
-		for _, t := range x.Provides {
-			if t.Kind == api.TypeName {
-				walk(t.Name)
-			}
-		}
 	}
-	walk(entity)
 	return l
 }
 
@@ -137,13 +163,10 @@ func (f *facts) result(t api.Type, name string) api.Type {
 	if t.Kind != api.TypeName {
 		return api.Type{}
 	}
-	m, e := f.w.Method(t.Name, name)
-	switch {
-	case e != api.OK:
-		return api.Type{}
-	case m.Kind == api.Be:
+	switch m, _ := f.method(t.Name, name); m.Kind {
+	case api.Be:
 		return named("None", api.Val)
-	case m.Kind == api.Fun:
+	case api.Fun:
 		return m.Result
 	}
 	return api.Type{}

@@ -245,8 +245,15 @@ func TestErrors(t *testing.T) {
 	if _, e := Lower(nil); e != world.ErrMethod {
 		t.Errorf("error %d", e)
 	}
-	if _, e := Method(make([]api.Entity, 201), "a", "b"); e != api.ErrSize {
+	if _, e := Lower(make([]api.Entity, 201)); e != api.ErrSize {
 		t.Errorf("error %d", e)
+	}
+	if _, e := Method(make([]api.Entity, 201), "a", "b"); e != world.ErrMethod {
+		t.Errorf("error %d", e)
+	}
+	lone := []api.Entity{{Kind: api.Class, Name: "C", Methods: []api.Method{{Kind: api.Fun, Name: "m", Body: expr(api.OpReturn, "", this())}}}}
+	if f, e := Method(lone, "C", "m"); e != api.OK || f.Name != "C.m" {
+		t.Errorf("%v, error %d", f, e)
 	}
 	deep := seq()
 	for range api.MaxTree - 1 {
@@ -371,5 +378,51 @@ func TestExample(t *testing.T) {
 	f, e = ssa.Clean(f)
 	if e != api.OK || len(f.Blocks) != 1 || len(f.Blocks[0].Ins) != 0 || f.Blocks[0].End.Kind != ssa.Return || f.Blocks[0].End.Args[0] != 1 {
 		t.Errorf("%v", f)
+	}
+}
+
+// TestNatives: what is certainly a number is computed by intrinsics, but not what only should be one, nor by methods that a program has itself.
+func TestNatives(t *testing.T) {
+	count := func(p []api.Entity) (natives, calls int) {
+		f, e := Method(p, "main.Main", "test")
+		if e != api.OK {
+			t.Fatalf("error %d", e)
+		}
+		for _, b := range f.Blocks {
+			for _, x := range b.Ins {
+				switch x.Op {
+				case ssa.Native:
+					natives++
+					if x.Type.Name != "U8" && x.Type.Name != "Bool" && x.Type.Name != "U16" {
+						t.Errorf("%v", x)
+					}
+				case ssa.Call:
+					calls++
+				}
+			}
+		}
+		return natives, calls
+	}
+	a, i := local("a"), local("i")
+	set := func(name string, v api.Expr) api.Expr { return expr(api.OpAssign, name, v) }
+	declare := func(v ...api.Expr) api.Expr { return expr(api.OpVar, "i: U8 val", v...) }
+	add := func(x, y api.Expr) api.Expr { return call("add", x, y) }
+	for n, c := range []struct {
+		body           api.Expr
+		natives, calls int
+	}{
+		{add(num(1), num(2)), 1, 0}, {add(a, num(2)), 0, 1}, {add(num(1), a), 0, 1}, {add(add(num(1), num(2)), num(3)), 2, 0}, {call("string", num(1)), 0, 1}, {call("add_partial", num(1), num(2)), 0, 1}, {call("nope", num(1)), 0, 1}, {call("add", num(1)), 0, 1}, {call("add", num(1), boolean(true)), 0, 1}, {call("neg", call("u16", num(1))), 2, 0}, {call("op_and", isSame(a, a), call("lt", num(1), num(2))), 2, 0},
+		{seq(declare(num(0)), expr(api.OpWhile, "", call("lt", i, num(3)), set("i", add(i, num(1))), no)), 2, 0}, {seq(declare(num(0)), expr(api.OpWhile, "", call("lt", i, num(3)), set("i", add(i, a)), no)), 0, 2}, {seq(declare(), set("i", num(1)), add(i, i)), 1, 0}, {seq(declare(num(1)), expr(api.OpConsume, "i"), set("i", num(2)), add(i, i)), 1, 0}, {seq(declare(num(1)), set("i", boolean(true)), add(i, i)), 0, 1}, {seq(declare(), add(i, i)), 0, 1},
+		{seq(expr(api.OpTry, "", add(num(1), num(2)), no, no)), 1, 0}, {expr(api.OpIf, "", call("eq", num(1), num(2)), add(num(1), num(1)), add(a, a)), 2, 1},
+	} {
+		natives, calls := count(with(c.body))
+		if natives != c.natives || calls != c.calls {
+			t.Errorf("%d: %d natives and %d calls, not %d and %d", n, natives, calls, c.natives, c.calls)
+		}
+		p := change(with(c.body), "U8", "add", num(9))
+		if natives, _ := count(p); n < 2 && natives != 0 {
+			t.Errorf("%d: %d natives of a method of the program", n, natives)
+		}
+		compare(t, "own "+strconv.Itoa(n), change(with(say(c.body)), "U8", "add", num(9)), []int{1, 2}, 500)
 	}
 }

@@ -6,6 +6,7 @@ import (
 
 	"hackamore/api"
 	"hackamore/internal/edit"
+	"hackamore/internal/same"
 	"hackamore/num"
 	"hackamore/ssa"
 )
@@ -13,9 +14,9 @@ import (
 // copies finds values that are just other ones, and drops what nothing uses.
 func (o *optimizer) copies() {
 	o.each(func(w *work) bool {
-		isCopied := w.copySweep()
 		isDropped := w.drop()
-		return isCopied || isDropped
+		isCopied := w.copySweep()
+		return isDropped || isCopied
 	})
 }
 
@@ -103,7 +104,7 @@ func (m *made) folded(x *ssa.Ins) (api.Value, bool) {
 		l = append(l, c)
 	}
 	if x.Op == ssa.Is {
-		return boolean(edit.SameValue(l[0], l[1])), true
+		return boolean(same.Value(l[0], l[1])), true
 	}
 	typ, method, ok := strings.Cut(x.Text, ".")
 	v, raised, e := num.Call(typ, method, l)
@@ -121,13 +122,15 @@ func boolean(b bool) api.Value {
 // branchSweep makes jumps of branches that have one way.
 func (w *work) branchSweep() bool {
 	found := false
+	m := w.made()
 	for b := 0; b < len(w.Blocks); b++ {
-		to := w.oneWay(b, w.made())
+		to := w.oneWay(b, m)
 		if to < 0 || w.isFull() {
 			continue
 		}
 		w.step(Step{Kind: StepBranch, A: b, B: to})
 		edit.Keep(w.Func, b, to)
+		m = w.made()
 		b, found = -1, true // blocks may be gone
 	}
 	return found
@@ -141,7 +144,7 @@ func (w *work) oneWay(block int, m *made) int {
 	}
 	c, ok := m.constant(end.Args[0])
 	for to, known := range [2]api.Value{boolean(true), boolean(false)} {
-		if ok && edit.SameValue(c, known) {
+		if ok && same.Value(c, known) {
 			return to
 		}
 	}

@@ -4,6 +4,7 @@ import (
 	"slices"
 
 	"hackamore/api"
+	"hackamore/internal/same"
 )
 
 // nothing is the number of a value that nothing makes in a function that was cleaned: more are never made.
@@ -143,8 +144,8 @@ func Equal(f, g Func) bool {
 		return false
 	}
 	c := comparison{numbers(f), numbers(g)}
-	return f.Name == g.Name && f.Partial == g.Partial && sameType(f.Result, g.Result) &&
-		slices.EqualFunc(f.Params, g.Params, sameType) && slices.EqualFunc(f.Blocks, g.Blocks, c.sameBlock)
+	return f.Name == g.Name && f.Partial == g.Partial && same.Type(f.Result, g.Result) &&
+		slices.EqualFunc(f.Params, g.Params, same.Type) && slices.EqualFunc(f.Blocks, g.Blocks, c.sameBlock)
 }
 
 func (c comparison) sameBlock(a, b Block) bool {
@@ -153,23 +154,10 @@ func (c comparison) sameBlock(a, b Block) bool {
 }
 
 func (c comparison) sameIns(a, b Ins) bool {
-	return a.Op == b.Op && sameType(a.Type, b.Type) && c.sameArgs(a.Args, b.Args) && a.Text == b.Text && a.Name == b.Name &&
-		sameValue(a.Lit, b.Lit) && a.N == b.N && a.Flag == b.Flag
+	return a.Op == b.Op && same.Type(a.Type, b.Type) && c.sameArgs(a.Args, b.Args) && a.Text == b.Text && a.Name == b.Name &&
+		same.Value(a.Lit, b.Lit) && a.N == b.N && a.Flag == b.Flag
 }
 
 func (c comparison) sameArgs(a, b []int) bool {
 	return slices.EqualFunc(a, b, func(v, w int) bool { return numbered(c.to, v) == numbered(c.from, w) })
-}
-
-// isShared reports whether two lists are one in memory: what is shared many times is not compared as often.
-func isShared[T any](a, b []T) bool { return len(a) == len(b) && (len(a) == 0 || &a[0] == &b[0]) }
-
-func sameType(a, b api.Type) bool {
-	return a.Kind == b.Kind && a.Name == b.Name && a.Cap == b.Cap && a.Mark == b.Mark &&
-		(isShared(a.Args, b.Args) || slices.EqualFunc(a.Args, b.Args, sameType))
-}
-
-func sameValue(a, b api.Value) bool {
-	return a.Kind == b.Kind && a.Lo == b.Lo && a.Hi == b.Hi && a.Name == b.Name &&
-		(isShared(a.Kids, b.Kids) || slices.EqualFunc(a.Kids, b.Kids, sameValue))
 }

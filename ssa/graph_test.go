@@ -79,6 +79,59 @@ func TestGraphs(t *testing.T) {
 	}
 }
 
+// TestNumbers: operations and ends have the numbers of the tables.
+func TestNumbers(t *testing.T) {
+	if Const != 1 || Phi != 3 || Make != 8 || Native != 11 || Send != 13 || Fits != 17 || OpCount != 17 || Jump != 1 || Try != 5 || Stuck != 6 {
+		t.Error("other numbers")
+	}
+}
+
+// isCircleFree reports whether blocks have no circles but by edges that lead to a block which dominates their beginning.
+func isCircleFree(f Func) bool {
+	state := map[int]int{} // 1: on the way, 2: done
+	var walk func(b int) bool
+	walk = func(b int) bool {
+		state[b] = 1
+		for _, to := range f.Blocks[b].End.To {
+			if flows.Dominates(f.Blocks, to, b) {
+				continue
+			}
+			if state[to] == 1 || state[to] == 0 && !walk(to) {
+				return false
+			}
+		}
+		state[b] = 2
+		return true
+	}
+	return walk(0)
+}
+
+// TestBackwards: an edge that does not go forward in Order leads to the head of a loop, which dominates its beginning, if there are no other circles.
+func TestBackwards(t *testing.T) {
+	seen := 0
+	for seed, f := range chances(300, false) {
+		if !isCircleFree(f) {
+			continue
+		}
+		order, _ := Order(f)
+		heads, _, _ := Loops(f)
+		for b, x := range f.Blocks {
+			for _, to := range x.End.To {
+				if slices.Index(order, to) > slices.Index(order, b) {
+					continue
+				}
+				seen++
+				if dominates, _ := Dominates(f, to, b); !dominates || !slices.Contains(heads, to) {
+					t.Errorf("seed %d: the edge from %d to %d", seed, b, to)
+				}
+			}
+		}
+	}
+	if seen < 50 {
+		t.Errorf("%d edges", seen)
+	}
+}
+
 // checkOrder compares Order with a walk, and asks that each block stands behind its dominator.
 func checkOrder(t *testing.T, f Func, up []int) {
 	var post []int

@@ -61,11 +61,11 @@ func Live(f Func) ([][]int, api.Errno) {
 
 // need puts the blocks into a set at whose beginning a value is needed that is used in a block: those from there back to the one in which it is made. A parameter is made ahead of the first one.
 func (g *graph) need(in *blockSet, block int, made spot) {
+	isParam := made == spot{0, -1}
 	work := []int{block}
 	for len(work) > 0 {
 		b := work[len(work)-1]
 		work = work[:len(work)-1]
-		isParam := made == spot{0, -1}
 		if b == made.block && !isParam || !in.add(b) {
 			continue
 		}

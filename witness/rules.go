@@ -7,6 +7,7 @@ import (
 
 	"hackamore/api"
 	"hackamore/internal/edit"
+	"hackamore/internal/same"
 	"hackamore/internal/target"
 	"hackamore/num"
 	"hackamore/optimize"
@@ -71,7 +72,7 @@ func isStep(s optimize.Step) bool {
 	default:
 		return false
 	}
-	return (b || s.B == 0) && (lit || edit.SameValue(s.Lit, api.Value{})) && (text || s.Text == "")
+	return (b || s.B == 0) && (lit || same.Value(s.Lit, api.Value{})) && (text || s.Text == "")
 }
 
 // hasDirects reports whether each direct is one of a function with as many parameters.
@@ -164,9 +165,9 @@ func stepFold(f *ssa.Func, a int, lit api.Value) {
 		typ, method, ok := strings.Cut(x.Text, ".")
 		must(ok)
 		v, raised, e := num.Call(typ, method, l)
-		must(e == api.OK && !raised && edit.SameValue(v, lit))
+		must(e == api.OK && !raised && same.Value(v, lit))
 	case ssa.Is:
-		must(edit.SameValue(lit, boolean(edit.SameValue(l[0], l[1]))))
+		must(same.Value(lit, boolean(same.Value(l[0], l[1]))))
 	default:
 		must(false)
 	}
@@ -207,7 +208,7 @@ func stepBranch(f *ssa.Func, a, b int) {
 	end := f.Blocks[a].End
 	must(end.Kind == ssa.Branch)
 	v, ok := constant(f, end.Args[0])
-	isKnown := ok && edit.SameValue(v, boolean(b == 0))
+	isKnown := ok && same.Value(v, boolean(b == 0))
 	must(isKnown || b == 0 && isOneWay(*f, a))
 	edit.Keep(f, a, b)
 }

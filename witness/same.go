@@ -4,27 +4,23 @@ import (
 	"slices"
 
 	"hackamore/api"
-	"hackamore/internal/edit"
+	"hackamore/internal/same"
 )
 
 func sameEntity(a, b api.Entity) bool {
 	return a.Kind == b.Kind && a.Name == b.Name && a.Cap == b.Cap && slices.EqualFunc(a.Bounds, b.Bounds, sameBound) &&
-		slices.EqualFunc(a.Provides, b.Provides, edit.SameType) && slices.EqualFunc(a.Fields, b.Fields, sameField) && slices.EqualFunc(a.Methods, b.Methods, sameMethod)
+		slices.EqualFunc(a.Provides, b.Provides, same.Type) && slices.EqualFunc(a.Fields, b.Fields, sameField) && slices.EqualFunc(a.Methods, b.Methods, sameMethod)
 }
 
-func sameBound(a, b api.Bound) bool { return a.Name == b.Name && edit.SameType(a.Type, b.Type) }
+func sameBound(a, b api.Bound) bool { return a.Name == b.Name && same.Type(a.Type, b.Type) }
 
 func sameField(a, b api.Field) bool {
-	return a.Name == b.Name && a.Let == b.Let && edit.SameType(a.Type, b.Type)
+	return a.Name == b.Name && a.Let == b.Let && same.Type(a.Type, b.Type)
 }
 
-func sameParam(a, b api.Param) bool { return a.Name == b.Name && edit.SameType(a.Type, b.Type) }
+func sameParam(a, b api.Param) bool { return a.Name == b.Name && same.Type(a.Type, b.Type) }
 
 func sameMethod(a, b api.Method) bool {
-	return a.Kind == b.Kind && a.Name == b.Name && a.Cap == b.Cap && a.Partial == b.Partial && edit.SameType(a.Result, b.Result) &&
-		slices.EqualFunc(a.Bounds, b.Bounds, sameBound) && slices.EqualFunc(a.Params, b.Params, sameParam) && sameExpr(a.Body, b.Body)
-}
-
-func sameExpr(a, b api.Expr) bool {
-	return a.Op == b.Op && a.Text == b.Text && slices.EqualFunc(a.Types, b.Types, edit.SameType) && slices.EqualFunc(a.Kids, b.Kids, sameExpr)
+	return a.Kind == b.Kind && a.Name == b.Name && a.Cap == b.Cap && a.Partial == b.Partial && same.Type(a.Result, b.Result) &&
+		slices.EqualFunc(a.Bounds, b.Bounds, sameBound) && slices.EqualFunc(a.Params, b.Params, sameParam) && same.Expr(a.Body, b.Body)
 }

@@ -3,25 +3,20 @@ package edit
 import (
 	"slices"
 
-	"hackamore/api"
+	"hackamore/internal/same"
 	"hackamore/ssa"
 )
 
 // Edge is an edge between blocks: the block from which it comes, when the graph was opened, and its index among the targets there.
 type Edge struct{ Block, Index int }
 
-// node is a block whose targets are nodes, each with its edge; phis have their arguments by the edges to the block.
+// node is a block whose targets are nodes, each with its edge; in are the edges to it, in the order of the arguments of its phis.
 type node struct {
-	phis  []phi
-	ins   []ssa.Ins // those that are no phis
+	ins   []ssa.Ins
 	end   ssa.End
 	to    []*node
 	edges []Edge
-}
-
-type phi struct {
-	ssa.Ins
-	args map[Edge]int
+	in    []Edge
 }
 
 // Edges returns the edges to each block, in the order of the arguments of phis.
@@ -40,26 +35,16 @@ func open(f ssa.Func, first int) []*node {
 	ahead := Edges(f)
 	f = Copy(f)
 	nodes := make([]*node, len(f.Blocks))
-	for b := range nodes {
-		nodes[b] = &node{}
+	for b, x := range f.Blocks {
+		nodes[b] = &node{ins: x.Ins, end: x.End}
+		for _, e := range ahead[b] {
+			nodes[b].in = append(nodes[b].in, Edge{first + e.Block, e.Index})
+		}
 	}
 	for b, x := range f.Blocks {
-		n := nodes[b]
-		n.end = x.End
 		for i, to := range x.End.To {
-			n.to = append(n.to, nodes[to])
-			n.edges = append(n.edges, Edge{first + b, i})
-		}
-		for _, y := range x.Ins {
-			if y.Op != ssa.Phi {
-				n.ins = append(n.ins, y)
-				continue
-			}
-			p := phi{y, map[Edge]int{}}
-			for k, e := range ahead[b] {
-				p.args[Edge{first + e.Block, e.Index}] = y.Args[k]
-			}
-			n.phis = append(n.phis, p)
+			nodes[b].to = append(nodes[b].to, nodes[to])
+			nodes[b].edges = append(nodes[b].edges, Edge{first + b, i})
 		}
 	}
 	return nodes
@@ -75,13 +60,6 @@ func replace(nodes []*node, to map[int]int) {
 		}
 	}
 	for _, n := range nodes {
-		for _, p := range n.phis {
-			for _, e := range p.edges() {
-				if v, ok := to[p.args[e]]; ok {
-					p.args[e] = v
-				}
-			}
-		}
 		for _, x := range n.ins {
 			each(x.Args)
 		}
@@ -90,30 +68,44 @@ func replace(nodes []*node, to map[int]int) {
 	}
 }
 
-// edges returns the edges for which a phi has arguments.
-func (p phi) edges() []Edge {
-	var l []Edge
-	for e := range p.args {
-		l = append(l, e)
-	}
-	return l
-}
-
-// blocks returns the blocks of the nodes that the first one reaches, in their order; arguments of phis stand in the order of the edges, and there are none for edges that are gone.
-func blocks(nodes []*node) []ssa.Block {
-	reached := map[*node]bool{nodes[0]: true}
+// reached returns the nodes that the first one reaches, in their order.
+func reached(nodes []*node) []*node {
+	seen := map[*node]bool{nodes[0]: true}
 	work := []*node{nodes[0]}
 	for len(work) > 0 {
 		n := work[len(work)-1]
 		work = work[:len(work)-1]
 		for _, to := range n.to {
-			if !reached[to] {
-				reached[to] = true
+			if !seen[to] {
+				seen[to] = true
 				work = append(work, to)
 			}
 		}
 	}
-	nodes = slices.DeleteFunc(slices.Clone(nodes), func(n *node) bool { return !reached[n] })
+	return slices.DeleteFunc(slices.Clone(nodes), func(n *node) bool { return !seen[n] })
+}
+
+// enter puts the arguments of a node's phis into the order of edges, without those of edges that are gone.
+func (n *node) enter(edges []Edge) {
+	if slices.Equal(n.in, edges) {
+		return
+	}
+	place := map[Edge]int{}
+	for i, e := range n.in {
+		place[e] = i
+	}
+	for i := 0; i < len(n.ins) && n.ins[i].Op == ssa.Phi; i++ {
+		var args []int
+		for _, e := range edges {
+			args = append(args, n.ins[i].Args[place[e]])
+		}
+		n.ins[i].Args = args
+	}
+}
+
+// blocks returns the blocks of the nodes that the first one reaches.
+func blocks(nodes []*node) []ssa.Block {
+	nodes = reached(nodes)
 	number := map[*node]int{}
 	for b, n := range nodes {
 		number[n] = b
@@ -126,21 +118,12 @@ func blocks(nodes []*node) []ssa.Block {
 	}
 	var out []ssa.Block
 	for b, n := range nodes {
-		x := ssa.Block{End: n.end}
-		x.End.To = nil
+		n.enter(ahead[b])
+		n.end.To = nil
 		for _, to := range n.to {
-			x.End.To = append(x.End.To, number[to])
+			n.end.To = append(n.end.To, number[to])
 		}
-		for _, p := range n.phis {
-			y := p.Ins
-			y.Args = nil
-			for _, e := range ahead[b] {
-				y.Args = append(y.Args, p.args[e])
-			}
-			x.Ins = append(x.Ins, y)
-		}
-		x.Ins = append(x.Ins, n.ins...)
-		out = append(out, x)
+		out = append(out, ssa.Block{Ins: n.ins, End: n.end})
 	}
 	return out
 }
@@ -160,10 +143,11 @@ func Join(f *ssa.Func, block int) {
 	n := nodes[block]
 	next := n.to[0]
 	to := map[int]int{}
-	for _, p := range next.phis {
-		to[p.Result] = p.args[n.edges[0]]
+	phis := 0
+	for ; phis < len(next.ins) && next.ins[phis].Op == ssa.Phi; phis++ {
+		to[next.ins[phis].Result] = next.ins[phis].Args[0]
 	}
-	n.ins = append(n.ins, next.ins...)
+	n.ins = append(n.ins, next.ins[phis:]...)
 	n.end, n.to, n.edges = next.end, next.to, next.edges
 	nodes = slices.DeleteFunc(nodes, func(m *node) bool { return m == next })
 	replace(nodes, to)
@@ -175,21 +159,21 @@ func Inline(f *ssa.Func, at Place, callee ssa.Func) {
 	call := f.Blocks[at.Block].Ins[at.At]
 	nodes := open(*f, 0)
 	n := nodes[at.Block]
-	place := at.At - len(n.phis)
 	inner := open(callee, len(nodes))
 	renumber(inner, callee, call.Args, Count(*f))
-	all := phi{ssa.Ins{Op: ssa.Phi, Result: call.Result, Type: call.Type}, map[Edge]int{}}
-	next := &node{ins: slices.Clone(n.ins[place+1:]), end: n.end, to: n.to, edges: n.edges}
-	n.ins = n.ins[:place]
-	n.end, n.to, n.edges = ssa.End{Kind: ssa.Jump}, inner[:1], []Edge{{len(nodes) + len(inner), 0}}
+	all := ssa.Ins{Op: ssa.Phi, Result: call.Result, Type: call.Type}
+	next := &node{end: n.end, to: n.to, edges: n.edges}
 	for i, m := range inner {
 		if m.end.Kind == ssa.Return {
 			e := Edge{len(nodes) + i, 0}
-			all.args[e] = m.end.Args[0]
+			all.Args = append(all.Args, m.end.Args[0])
+			next.in = append(next.in, e)
 			m.end, m.to, m.edges = ssa.End{Kind: ssa.Jump}, []*node{next}, []Edge{e}
 		}
 	}
-	next.phis = []phi{all}
+	next.ins = append([]ssa.Ins{all}, n.ins[at.At+1:]...)
+	n.ins = n.ins[:at.At]
+	n.end, n.to, n.edges = ssa.End{Kind: ssa.Jump}, inner[:1], []Edge{{len(nodes) + len(inner), 0}}
 	nodes = slices.Insert(nodes, at.Block+1, append(slices.Clone(inner), next)...)
 	f.Blocks = blocks(nodes)
 }
@@ -200,23 +184,16 @@ func renumber(nodes []*node, f ssa.Func, args []int, first int) {
 	for i, v := range args {
 		to[i] = v
 	}
-	for b, x := range f.Blocks {
-		for _, y := range x.Ins {
-			to[y.Result] = first
-			first++
-		}
-		if x.End.Kind == ssa.Try {
-			to[x.End.Call.Result] = first
-			nodes[b].end.Call.Result = first
-			first++
-		}
-	}
-	for _, n := range nodes {
-		for i := range n.phis {
-			n.phis[i].Result = to[n.phis[i].Result]
-		}
+	for b, n := range nodes {
 		for i := range n.ins {
-			n.ins[i].Result = to[n.ins[i].Result]
+			to[n.ins[i].Result] = first
+			n.ins[i].Result = first
+			first++
+		}
+		if f.Blocks[b].End.Kind == ssa.Try {
+			to[n.end.Call.Result] = first
+			n.end.Call.Result = first
+			first++
 		}
 	}
 	replace(nodes, to)
@@ -224,21 +201,6 @@ func renumber(nodes []*node, f ssa.Func, args []int, first int) {
 
 // Same reports whether two instructions are equal but for what they make.
 func Same(a, b ssa.Ins) bool {
-	return a.Op == b.Op && SameType(a.Type, b.Type) && slices.Equal(a.Args, b.Args) && a.Text == b.Text && a.Name == b.Name &&
-		SameValue(a.Lit, b.Lit) && a.N == b.N && a.Flag == b.Flag
-}
-
-// isShared reports whether two lists are one in memory.
-func isShared[T any](a, b []T) bool { return len(a) == len(b) && (len(a) == 0 || &a[0] == &b[0]) }
-
-// SameType reports whether two types are equal in all fields.
-func SameType(a, b api.Type) bool {
-	return a.Kind == b.Kind && a.Name == b.Name && a.Cap == b.Cap && a.Mark == b.Mark &&
-		(isShared(a.Args, b.Args) || slices.EqualFunc(a.Args, b.Args, SameType))
-}
-
-// SameValue reports whether two values are equal in all fields.
-func SameValue(a, b api.Value) bool {
-	return a.Kind == b.Kind && a.Lo == b.Lo && a.Hi == b.Hi && a.Name == b.Name &&
-		(isShared(a.Kids, b.Kids) || slices.EqualFunc(a.Kids, b.Kids, SameValue))
+	return a.Op == b.Op && same.Type(a.Type, b.Type) && slices.Equal(a.Args, b.Args) && a.Text == b.Text && a.Name == b.Name &&
+		same.Value(a.Lit, b.Lit) && a.N == b.N && a.Flag == b.Flag
 }

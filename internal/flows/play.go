@@ -185,7 +185,11 @@ func (x *player) ins(r *frame, y ssa.Ins, args []api.Value) api.Value {
 		v, _, _ := num.Call("U8", strings.TrimPrefix(y.Text, "U8."), args)
 		return v
 	case ssa.Tuple:
-		return api.Value{Kind: api.ValTuple, Kids: args}
+		v := api.Value{Kind: api.ValTuple, Kids: args}
+		if parts(v) > maxParts { // tuples of tuples soon become too long to be told
+			panic(stopped("cut"))
+		}
+		return v
 	case ssa.Item:
 		if y.N < len(args[0].Kids) {
 			return args[0].Kids[y.N]
@@ -201,6 +205,20 @@ func (x *player) ins(r *frame, y ssa.Ins, args []api.Value) api.Value {
 		panic(stopped("raised"))
 	}
 	return v
+}
+
+// maxParts is how many values a tuple may have.
+const maxParts = 200
+
+// parts returns how many values a value has; of one that has too many, at least so many.
+func parts(v api.Value) int {
+	n := 1
+	for _, k := range v.Kids {
+		if n += parts(k); n > maxParts {
+			break
+		}
+	}
+	return n
 }
 
 func same(a, b api.Value) bool {
