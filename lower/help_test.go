@@ -36,56 +36,8 @@ func say(e api.Expr) api.Expr {
 	return call("print", expr(api.OpGet, "out", this()), call("string", e))
 }
 
-// text has a program whose method Main.test is to be given bodies.
-const text = `
-trait Shape
-  fun size(): U8 => U8(1)
-  fun twice(): U8 => this.size() + this.size()
-class Cell is Shape
-  var v: U8
-  var next: (Cell | None)
-  new create(x: U8) =>
-    v = x
-    next = None
-  new risk(x: U8) ? =>
-    v = x
-    next = None
-    if x == U8(0) then error end
-  fun size(): U8 => v
-  fun ref put(x: U8): U8 => v = x
-  fun ref tie(c: Cell): None => next = c
-  fun part(x: U8): U8 ? => if x == U8(0) then error else x end
-  fun deep(x: U8): U8 => if x == U8(0) then v else this.deep(x - U8(1)) end
-  fun go(x: U8): U8 => x + U8(1)
-actor Act
-  var sum: U8
-  let out: Out
-  new create(o: Out, x: U8) =>
-    out = o
-    sum = x
-  be go(x: U8) =>
-    sum = sum + x
-    out.print(sum.string())
-  be back(m: Main, x: U8) => m.test(x, x)
-actor Main
-  var out: Out
-  var cell: Cell
-  var act: Act
-  let list: Array[U8]
-  new create(env: Env) =>
-    out = env.out
-    cell = Cell(U8(3))
-    act = Act(env.out, U8(5))
-    list = Array[U8].create()
-    this.test(U8(1), U8(2))
-    this.test(U8(0), U8(0))
-  be test(a: U8, b: U8) => None
-  fun ref help(a: U8): U8 => a
-  fun ref maybe(a: U8): U8 ? => if a == U8(0) then error else a end
-`
-
 // whole is the program of the text.
-var whole = pony.Program(text)
+var whole = pony.Program(pony.Numbers)
 
 // with returns the program with a body of the method test of Main.
 func with(body api.Expr) []api.Entity {

@@ -86,128 +86,12 @@ func TestBodies(t *testing.T) {
 	}
 }
 
-// writer writes bodies by chance, which have to do with numbers; not all are right.
-type writer struct {
-	pick  func(int) int
-	loops int
-}
-
-func (m *writer) name() string { return []string{"a", "b", "x", "y"}[m.pick(4)] }
-
-func (m *writer) number(depth int) api.Expr {
-	if depth <= 0 {
-		return []api.Expr{num(m.pick(3)), local("a"), local("b"), num(1)}[m.pick(4)]
-	}
-	d := depth - 1
-	switch m.pick(16) {
-	case 0:
-		return seq(m.statement(d), m.number(d))
-	case 1:
-		return expr(api.OpIf, "", m.boolean(d), m.number(d), m.number(d))
-	case 2:
-		return expr(api.OpTry, "", m.number(d), m.number(d), m.last(d))
-	case 3:
-		return expr(api.OpMatch, "", m.number(d), expr(api.OpCase, []string{"", "x"}[m.pick(2)]+": U8 val", m.boolean(d), m.number(d)), expr(api.OpCase, ": Any tag", no, m.number(d)))
-	case 4:
-		return expr(api.OpAssign, m.name(), m.number(d))
-	case 5:
-		return expr(api.OpConsume, m.name())
-	case 6:
-		return call("maybe", this(), m.number(d))
-	case 7:
-		return call([]string{"part", "go", "put"}[m.pick(3)], expr(api.OpGet, "cell", this()), m.number(d))
-	case 8:
-		return m.leave(d)
-	case 9:
-		return expr(api.OpItem, strconv.Itoa(m.pick(2)), expr(api.OpTuple, "", m.number(d), m.number(d)))
-	case 10:
-		return m.loop(d)
-	case 11:
-		return expr(api.OpSet, "v", expr(api.OpGet, "cell", this()), m.number(d))
-	case 12:
-		return call("add_partial", m.number(d), num(m.pick(300)%256))
-	case 13:
-		return call("size", expr(api.OpNew, []string{"create", "risk"}[m.pick(2)]+": main.Cell ref", m.number(d)))
-	}
-	return call([]string{"add", "sub", "mul"}[m.pick(3)], m.number(d), m.number(d))
-}
-
-func (m *writer) last(depth int) api.Expr {
-	if m.pick(2) == 0 {
-		return no
-	}
-	return m.statement(depth)
-}
-
-func (m *writer) boolean(depth int) api.Expr {
-	switch m.pick(4) {
-	case 0:
-		return boolean(m.pick(2) == 0)
-	case 1:
-		return seq(m.statement(depth), call("lt", m.number(depth-1), num(2)))
-	}
-	return call("eq", m.number(depth-1), m.number(0))
-}
-
-// leave returns what has no value.
-func (m *writer) leave(depth int) api.Expr {
-	ops := []int{api.OpError, api.OpReturn, api.OpBreak, api.OpContinue}
-	op := ops[m.pick(2+2*min(m.loops, 1))]
-	if op == api.OpReturn {
-		return expr(op, "", m.number(depth))
-	}
-	return expr(op, "")
-}
-
-// loop returns a loop that has an end.
-func (m *writer) loop(depth int) api.Expr {
-	i := "i" + strconv.Itoa(m.loops)
-	m.loops++
-	body := seq(expr(api.OpAssign, i, call("add", local(i), num(1))), m.statement(depth), m.number(depth))
-	cond := call("lt", local(i), num(1+m.pick(3)))
-	if m.pick(3) == 0 {
-		cond = seq(expr(api.OpAssign, i, call("add", local(i), num(1))), m.statement(depth), cond)
-	}
-	m.loops--
-	other := no
-	if m.pick(2) == 0 {
-		other = m.number(depth)
-	}
-	return seq(expr(api.OpVar, i+": U8 val", num(0)), expr(api.OpWhile, "", cond, body, other))
-}
-
-func (m *writer) statement(depth int) api.Expr {
-	switch m.pick(9) {
-	case 0:
-		return expr(api.OpVar, m.name()+": U8 val", m.number(depth-1))
-	case 1:
-		return expr(api.OpVar, m.name()+": U8 val")
-	case 2:
-		return expr(api.OpIf, "", m.boolean(depth-1), m.statement(depth-1), []api.Expr{no, m.statement(0)}[m.pick(2)])
-	case 3:
-		return call("go", []api.Expr{expr(api.OpGet, "act", this()), expr(api.OpGet, "cell", this())}[m.pick(2)], m.number(depth-1))
-	case 4:
-		if depth > 0 {
-			return expr(api.OpTry, "", m.statement(depth-1), m.statement(depth-1), m.last(depth-1))
-		}
-	case 5:
-		return expr(api.OpAssign, m.name(), m.number(depth-1))
-	}
-	return say(m.number(depth - 1))
-}
-
 // TestChance checks P20.2 with bodies by chance, many of which leave what is around them, and lose values.
 func TestChance(t *testing.T) {
 	rests := 0
 	for seed := range 800 {
-		m := &writer{pick: sample.Source(uint64(seed))}
-		body := expr(api.OpTry, "", seq(m.statement(3), m.statement(3), m.statement(3)), say(num(200)), no)
-		if seed%2 == 0 {
-			body = seq(expr(api.OpVar, "x: U8 val", num(9)), expr(api.OpVar, "y: U8 val", num(8)), body)
-		}
-		p := with(body)
-		p = change(p, "main.Cell", "part", m.number(2))
-		if compare(t, "seed "+strconv.Itoa(seed), p, []int{m.pick(5), m.pick(5), m.pick(5), m.pick(5)}, 500) {
+		m := &pony.NumberMaker{Pick: sample.Source(uint64(seed))}
+		if compare(t, "seed "+strconv.Itoa(seed), m.With(whole), []int{m.Pick(5), m.Pick(5), m.Pick(5), m.Pick(5)}, 500) {
 			rests++
 		}
 		if t.Failed() {
@@ -305,7 +189,7 @@ func TestErrors(t *testing.T) {
 
 // TestNames: the functions, their names, parameters and the like.
 func TestNames(t *testing.T) {
-	p := pony.Program(text)
+	p := pony.Program(pony.Numbers)
 	l, e := Lower(p)
 	if e != api.OK || len(l.Entities) != len(p) {
 		t.Fatalf("error %d", e)
@@ -369,7 +253,7 @@ func TestNames(t *testing.T) {
 
 // TestExample: of a body that returns a parameter one block is left.
 func TestExample(t *testing.T) {
-	p := change(pony.Program(text), "main.Main", "help", expr(api.OpReturn, "", local("a")))
+	p := change(pony.Program(pony.Numbers), "main.Main", "help", expr(api.OpReturn, "", local("a")))
 	f, e := Method(p, "main.Main", "help")
 	if e != api.OK {
 		t.Fatalf("error %d", e)
