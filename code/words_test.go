@@ -143,6 +143,15 @@ func TestWords(t *testing.T) {
 	if errors[api.OK] < 3000 || errors[ErrWord] < 2000 || errors[api.ErrRange] < 500 {
 		t.Errorf("%v", errors)
 	}
+	for n, want := range map[int]api.Errno{59: api.OK, 60: api.OK, 61: ErrWord, 255: ErrWord, 300: ErrWord} {
+		for _, op := range []int{Tuple, Call, Direct, Native, Spawn, Send} {
+			i := sound(op, n)
+			l, e := Words(i)
+			if e != want || e == api.OK && len(l) != 1+len(i.Index)+15 {
+				t.Errorf("a list of %d: error %d", n, e)
+			}
+		}
+	}
 	i := sound(Call, 3)
 	i.At, i.Length = -77, 1<<40
 	if _, e := Words(i); e != api.OK {

@@ -15,18 +15,26 @@ type draft struct {
 	to *label
 }
 
-// assembly is code that is being made.
+// assembly is code that is being made; size is how many words it has.
 type assembly struct {
 	l       []draft
+	size    int
 	classes []int
 	spare   [code.Any + 1][]int // by their class: registers that are no homes
 	used    [code.Any + 1]int   // how many of these have a value now
 }
 
+// add puts a draft behind the others.
+func (a *assembly) add(x draft) {
+	a.size += length(x.Ins)
+	mustFit(a.size <= code.MaxWords)
+	a.l = append(a.l, x)
+}
+
 // put puts an instruction behind the others.
 func (a *assembly) put(x code.Ins) {
 	x.Raised = -1
-	a.l = append(a.l, draft{x, nil})
+	a.add(draft{x, nil})
 }
 
 // listed puts one with a list behind the others; it goes on at a label with an error, if there is one.
@@ -36,16 +44,19 @@ func (a *assembly) listed(x code.Ins, raised *label) {
 		a.put(x)
 		return
 	}
-	x.C = 1
-	a.l = append(a.l, draft{x, raised})
+	x.C, x.Raised = 1, 0
+	a.add(draft{x, raised})
 }
 
 // going puts a jump or a branch behind the others.
 func (a *assembly) going(op, register int, to *label) {
-	a.l = append(a.l, draft{code.Ins{Op: op, A: register, Raised: -1}, to})
+	a.add(draft{code.Ins{Op: op, A: register, Raised: -1}, to})
 }
 
 func (a *assembly) place(to *label) { to.at = len(a.l) }
+
+// release says that no register but homes has a value that is needed.
+func (a *assembly) release() { a.used = [len(a.used)]int{} }
 
 // spared returns a register that is no home, and has no value that is needed.
 func (a *assembly) spared(class int) int {
@@ -68,25 +79,18 @@ func length(x code.Ins) int {
 
 // words fills in where instructions go, and returns the words of all of them.
 func (a *assembly) words() []uint32 {
-	isCall := func(x draft) bool { return x.to != nil && x.Op != code.Jump && x.Op != code.Branch }
-	var starts []int
-	at := 0
-	for i := range a.l {
-		x := &a.l[i]
-		if isCall(*x) {
-			x.Raised = 0
-		}
-		starts = append(starts, at)
-		at += length(x.Ins)
+	starts := []int{0}
+	for i, x := range a.l {
+		starts = append(starts, starts[i]+length(x.Ins))
 	}
-	starts = append(starts, at)
 	var words []uint32
 	for _, x := range a.l {
 		switch {
-		case isCall(x):
-			x.Raised = starts[x.to.at]
-		case x.to != nil:
+		case x.to == nil:
+		case x.Op == code.Jump || x.Op == code.Branch:
 			x.B, x.C = starts[x.to.at]%256, starts[x.to.at]/256
+		default:
+			x.Raised = starts[x.to.at]
 		}
 		l, e := code.Words(x.Ins)
 		mustFit(e == api.OK)
@@ -97,8 +101,6 @@ func (a *assembly) words() []uint32 {
 
 // function returns the function that the code is.
 func (a *assembly) function(name string, params int) code.Function {
-	mustFit(len(a.classes) <= code.MaxRegisters)
 	words := a.words()
-	mustFit(len(words) <= code.MaxWords)
 	return code.Function{Name: name, Params: params, Classes: a.classes, Words: words, Maps: registers.Of(words).Kept(a.classes)}
 }

@@ -232,8 +232,8 @@ func TestEmitErrors(t *testing.T) {
 		p ssa.Program
 		e api.Errno
 	}{
-		{program(asks("f", named("U8"), bad)), api.ErrForm}, {program(asks("f", wide, bad)), api.ErrSize}, {program(asks("f", bad), variable), api.ErrForm}, {program(variable, asks("f", bad)), ErrVar}, {program(asks("f", bad), fn("f", 0, block(back(0)))), ssa.ErrUse}, {program(variable, variable), api.ErrTwice}, {program(calls("f", "x"), calls("g"), fn("h", 0, block(back(0), ins(ssa.Direct, 0, "nope")))), api.ErrNone},
-		{program(lone), api.ErrLarge}, {program(lone, variable), ErrVar}, {program(fn("f", 0, block(back(0), pair))), api.ErrLarge}, {program(fn("f", 0, block(back(0), constant(0, api.Value{Kind: 4, Name: strings.Repeat("x", 300)})))), api.OK}, {program(fn("f", 0, block(back(0), constant(0, api.Value{Kind: 4, Name: strings.Repeat("x", 301)})))), api.ErrLarge},
+		{program(asks("f", named("U8"), bad)), api.ErrForm}, {program(fn("f", 1, block(jump(1), tuple(1, 0, 0)), block(back(0), tuple(2, 0, 0), fits(3, 0, bad)))), api.ErrForm}, {program(asks("f", wide, bad)), api.ErrSize}, {program(asks("f", bad), variable), api.ErrForm}, {program(variable, asks("f", bad)), ErrVar}, {program(asks("f", bad), fn("f", 0, block(back(0)))), ssa.ErrUse}, {program(variable, variable), api.ErrTwice}, {program(calls("f", "x"), calls("g"), fn("h", 0, block(back(0), ins(ssa.Direct, 0, "nope")))), api.ErrNone},
+		{program(lone), api.ErrLarge}, {program(lone, variable), ErrVar}, {program(fn("f", 0, block(back(0), pair))), api.ErrLarge}, {program(fn("f", 0, block(back(0), constant(1, api.Value{Kind: api.ValTuple}), pair))), api.ErrLarge}, {program(fn("f", 0, block(back(0), constant(0, api.Value{Kind: api.ValTuple})))), api.OK}, {program(fn("f", 0, block(back(0), constant(0, api.Value{Kind: 4, Name: strings.Repeat("x", 300)})))), api.OK}, {program(fn("f", 0, block(back(0), constant(0, api.Value{Kind: 4, Name: strings.Repeat("x", 301)})))), api.ErrLarge},
 		{program(fn("f", 1, block(back(1), ins(ssa.Call, 1, "m", args...)))), api.ErrLarge}, {program(fn("f", 1, block(back(1), ins(ssa.Call, 1, "m", args[1:]...)))), api.OK}, {program(fn("f", 1, block(back(1), tuple(1, args...)))), api.ErrLarge}, {program(fn("f", 1, block(back(2), tuple(1, args...), item(2, 1, 60)))), api.OK},
 		{program(makes(numbered(3000, 0, "E"))), api.OK}, {ssa.Program{Entities: []api.Entity{{Name: strings.Repeat("x", 20000)}}}, api.OK}, {ssa.Program{Entities: []api.Entity{{Name: strings.Repeat("x", 20001)}}}, api.ErrLarge}, {understood, api.ErrLarge}, {ssa.Program{Entities: understood.Entities, Funcs: understood.Funcs[1:]}, api.OK}, {ssa.Program{Entities: make([]api.Entity, 201)}, api.ErrSize},
 	} {
@@ -254,6 +254,59 @@ func TestEmitErrors(t *testing.T) {
 			t.Errorf("%d calls: error %d", n, e)
 		}
 	}
+}
+
+// TestMany: what comes one after the other shares registers; and what would become much too large is left early.
+func TestMany(t *testing.T) {
+	calls := fn("f", 0, block(back(0), constant(0, u8(1)), tuple(1, 0, 0, 0)))
+	for v := 2; v < 302; v++ {
+		calls.Blocks[0].Ins = append(calls.Blocks[0].Ins, ins(ssa.Call, v, "m", 0, 1, 0))
+	}
+	ends := fn("f", 0, block(jump(1), constant(0, u8(1)), constant(1, truth(true))))
+	for b := 1; b < 399; b += 2 { // to one that returns, or on
+		ends.Blocks = append(ends.Blocks, block(branch(1, b+1, b+2)), block(back(0)))
+	}
+	ends.Blocks = append(ends.Blocks, block(back(0)))
+	for i, f := range []ssa.Func{calls, ends} {
+		c, e := Emit(program(f))
+		if e != api.OK || len(c.Functions[0].Classes) > 20 {
+			t.Fatalf("%d: error %d, %d registers", i, e, len(c.Functions[0].Classes))
+		}
+		compare(t, program(f), c)
+	}
+	l, _, _ := code.All(emitted(t, ends).Words)
+	far := 0
+	for _, i := range l { // the conditions hold: each branch leads to a return of a box
+		if to := i.B + 256*i.C; i.Op == code.Branch {
+			n := slices.IndexFunc(l, func(x code.Ins) bool { return x.At == to })
+			if n < 0 || l[n].Op != code.Box || l[n+1].Op != code.Return {
+				t.Fatalf("%v", i)
+			}
+			if to > 255 {
+				far++
+			}
+		}
+	}
+	if far < 50 {
+		t.Errorf("%d far branches", far)
+	}
+	large := fn("f", 0, block(back(0), constant(0, u8(1)), tuple(1, slices.Repeat([]int{0}, 60)...)))
+	for v := 2; v < 3998; v++ {
+		large.Blocks[0].Ins = append(large.Blocks[0].Ins, ins(ssa.Call, v, "m", slices.Repeat([]int{1}, 60)...))
+	}
+	if _, e := Emit(program(large)); e != api.ErrLarge {
+		t.Errorf("error %d", e)
+	}
+}
+
+// emitted returns the code of a function.
+func emitted(t *testing.T, f ssa.Func) code.Function {
+	t.Helper()
+	c, e := Emit(program(f))
+	if e != api.OK {
+		t.Fatalf("error %d", e)
+	}
+	return c.Functions[0]
 }
 
 // TestNeverLarge: programs that are just as large as they may be.

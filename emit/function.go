@@ -36,8 +36,10 @@ func (t *tables) function(k *known, f ssa.Func, shapes []Shape) code.Function {
 	for b, x := range f.Blocks {
 		m.place(m.blocks[b])
 		for i := range x.Ins {
+			m.release()
 			m.instruction(&x.Ins[i])
 		}
+		m.release()
 		m.end(b)
 	}
 	return m.assembly.function(f.Name, len(f.Params))
@@ -82,7 +84,6 @@ func (m *maker) home(v int) int { return m.homes[v][0] }
 
 // instruction makes the code of an instruction.
 func (m *maker) instruction(x *ssa.Ins) {
-	used := m.used
 	switch x.Op {
 	case ssa.Phi: // made by the edges
 	case ssa.Const:
@@ -113,7 +114,6 @@ func (m *maker) instruction(x *ssa.Ins) {
 	default:
 		m.call(x, nil)
 	}
-	m.used = used
 }
 
 // wide puts an instruction with a D.
@@ -167,7 +167,6 @@ func (m *maker) item(x *ssa.Ins) {
 
 // move moves what is in registers to others, all at once.
 func (m *maker) move(to, from []int) {
-	used := m.used
 	for class := code.Num; class <= code.Any; class++ {
 		var l []Move
 		for i, r := range to {
@@ -192,7 +191,6 @@ func (m *maker) move(to, from []int) {
 			m.put(code.Ins{Op: code.Move, A: x.To, B: x.From})
 		}
 	}
-	m.used = used
 }
 
 // isArith reports whether a call, or a native, is arithmetic: of no other one the kind is known.
@@ -202,7 +200,6 @@ func (m *maker) isArith(x *ssa.Ins) bool {
 
 // call makes a call, a direct or a native; it goes on at a label with an error, if there is one.
 func (m *maker) call(x *ssa.Ins, raised *label) {
-	used := m.used
 	i := code.Ins{A: m.home(x.Result)}
 	switch {
 	case m.isArith(x):
@@ -219,12 +216,10 @@ func (m *maker) call(x *ssa.Ins, raised *label) {
 	}
 	i.List = m.values(x.Args)
 	m.listed(i, raised)
-	m.used = used
 }
 
 // end makes the code of the end of a block.
 func (m *maker) end(b int) {
-	used := m.used
 	x := m.f.Blocks[b].End
 	switch x.Kind {
 	case ssa.Jump:
@@ -232,7 +227,6 @@ func (m *maker) end(b int) {
 	case ssa.Branch:
 		yes := m.wayOf(m.out[b][0])
 		m.going(code.Branch, m.condition(x.Args[0]), yes)
-		m.used = used
 		m.fork(b, 1, 0, yes)
 	case ssa.Return:
 		m.put(code.Ins{Op: code.Return, A: m.value(x.Args[0])})
@@ -254,7 +248,6 @@ func (m *maker) end(b int) {
 	default:
 		m.put(code.Ins{Op: code.Stuck})
 	}
-	m.used = used
 }
 
 // condition returns a register with the bits of a Bool.
@@ -272,7 +265,8 @@ func (m *maker) condition(v int) int {
 func (m *maker) wayOf(e edge) *label {
 	for _, x := range phis(m.f.Blocks[e.to]) {
 		v := x.Args[e.way]
-		if isSame := m.shapes[v].Kind == m.shapes[x.Result].Kind && slices.Equal(m.homes[v], m.homes[x.Result]); !isSame && m.uses[x.Result] > 0 {
+		isThere := m.shapes[v].Kind == m.shapes[x.Result].Kind && slices.Equal(m.homes[v], m.homes[x.Result])
+		if !isThere && m.uses[x.Result] > 0 {
 			return &label{}
 		}
 	}
@@ -301,7 +295,7 @@ func (m *maker) leave(e edge) {
 
 // pass gives the phis behind an edge their values, all at once.
 func (m *maker) pass(e edge) {
-	used := m.used
+	m.release()
 	var to, from []int
 	for _, x := range phis(m.f.Blocks[e.to]) {
 		v := x.Args[e.way]
@@ -316,5 +310,4 @@ func (m *maker) pass(e edge) {
 		}
 	}
 	m.move(to, from)
-	m.used = used
 }

@@ -225,7 +225,6 @@ type assigner struct {
 	Homes
 	shapes     []Shape
 	neighbours [][]int // the values that each one meets
-	wishes     [][]int // the values in whose registers each one should be
 }
 
 // Assign returns registers for the values of a function.
@@ -239,26 +238,21 @@ func Assign(p ssa.Program, f ssa.Func) (Homes, api.Errno) {
 
 func assign(f ssa.Func, shapes []Shape) (Homes, api.Errno) {
 	n := len(shapes)
-	a := &assigner{livenessOf(f), Homes{Values: make([][]int, n)}, shapes, make([][]int, n), make([][]int, n)}
+	a := &assigner{livenessOf(f), Homes{Values: make([][]int, n)}, shapes, make([][]int, n)}
 	if !a.findNeighbours() {
 		return Homes{}, api.ErrLarge
 	}
-	a.findWishes()
 	for v := range f.Params {
 		a.Values[v] = []int{v}
 		a.Classes = append(a.Classes, code.Any)
 	}
 	order, _ := ssa.Order(f)
 	for _, b := range order {
-		for _, y := range f.Blocks[b].Ins {
-			a.place(y.Result)
+		for x := range instructions(ssa.Func{Blocks: f.Blocks[b : b+1]}) {
+			if a.place(x.Result); len(a.Classes) > code.MaxRegisters {
+				return Homes{}, api.ErrLarge
+			}
 		}
-		if end := f.Blocks[b].End; end.Kind == ssa.Try {
-			a.place(end.Call.Result)
-		}
-	}
-	if len(a.Classes) > code.MaxRegisters {
-		return Homes{}, api.ErrLarge
 	}
 	return a.Homes, api.OK
 }
@@ -283,47 +277,25 @@ func (a *assigner) findNeighbours() bool {
 	return true
 }
 
-// findWishes finds which values should be in the registers of which others, so that nothing has to be moved: phis and their arguments.
-func (a *assigner) findWishes() {
-	for _, b := range a.Blocks {
-		for _, x := range phis(b) {
-			for _, v := range x.Args {
-				a.wishes[x.Result] = append(a.wishes[x.Result], v)
-				a.wishes[v] = append(a.wishes[v], x.Result)
-			}
-		}
-	}
-}
-
 // place gives a value registers that none of those has that it meets.
 func (a *assigner) place(v int) {
-	var taken [code.MaxRegisters + 1]bool
+	taken := map[int]bool{}
 	for _, w := range a.neighbours[v] {
 		for _, r := range a.Values[w] {
-			taken[min(r, code.MaxRegisters)] = true
+			taken[r] = true
 		}
 	}
-	var wished []int
-	for _, w := range a.wishes[v] {
-		wished = append(wished, a.Values[w]...)
-	}
 	for _, class := range Classes(a.shapes[v]) {
-		r := a.free(class, wished, taken[:])
+		r := a.free(class, taken)
 		a.Values[v] = append(a.Values[v], r)
-		taken[min(r, code.MaxRegisters)] = true
+		taken[r] = true
 	}
 }
 
-// free returns a register of a class that is not taken: one of those that are wished for, or the first one, or a new one.
-func (a *assigner) free(class int, wished []int, taken []bool) int {
-	isFree := func(r int) bool { return r < code.MaxRegisters && a.Classes[r] == class && !taken[r] }
-	for _, r := range wished {
-		if isFree(r) {
-			return r
-		}
-	}
-	for r := range a.Classes {
-		if isFree(r) {
+// free returns the first register of a class that is not taken; a new one, if there is none.
+func (a *assigner) free(class int, taken map[int]bool) int {
+	for r, c := range a.Classes {
+		if c == class && !taken[r] {
 			return r
 		}
 	}

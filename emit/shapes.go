@@ -207,15 +207,12 @@ func (s *shaper) divide(x *ssa.Ins) bool {
 	return true
 }
 
-// settle sweeps over the instructions until no kind changes any more.
+// settle sweeps over the instructions until no kind changes any more. (That of an item that just is another value plays no part.)
 func (s *shaper) settle(ins []*ssa.Ins) {
 sweeps:
 	for {
 		changed := false
 		for _, x := range ins {
-			if s.is[x.Result] != x.Result || s.parts[x.Result] != nil {
-				continue
-			}
 			kind := s.kind(x)
 			changed = changed || kind != s.kinds[x.Result]
 			s.kinds[x.Result] = kind
@@ -226,14 +223,8 @@ sweeps:
 	}
 }
 
-// kindAt returns the kind of a value, as far as it was said; 0 for a tuple.
-func (s *shaper) kindAt(v int) int {
-	v = s.is[v]
-	if s.parts[v] != nil {
-		return 0
-	}
-	return s.kinds[v]
-}
+// kindAt returns the kind of a value, as far as it was said; a tuple has none.
+func (s *shaper) kindAt(v int) int { return s.kinds[s.is[v]] }
 
 // kind returns the kind of what an instruction makes.
 func (s *shaper) kind(x *ssa.Ins) int {

@@ -104,10 +104,8 @@ func (t *tables) splits(name string) iter.Seq2[string, string] {
 	}
 }
 
-// nameSelectors names the selectors, ascending, but those ahead that an entity understands: layer 23 gets no more than these.
+// nameSelectors names the selectors, those ahead that an entity understands: layer 23 gets no more than these.
 func (t *tables) nameSelectors(called []string) {
-	slices.Sort(called)
-	called = slices.Compact(called)
 	understood := map[string]bool{}
 	for name := range t.functions {
 		for _, s := range t.splits(name) {
@@ -150,8 +148,7 @@ func (t *tables) colour() {
 		w.Classes = append(w.Classes, entries[name])
 	}
 	w.Classes = w.Classes[:last]
-	colours, e := colour.Colours(w)
-	mustFit(e == api.OK)
+	colours, _ := colour.Colours(w)
 	vector, offsets, e := colour.Pack(w, colours)
 	mustFit(e == api.OK)
 	t.out.Vector, t.out.Offsets, t.out.Colours = vector, offsets, colours

@@ -166,20 +166,39 @@ func form(seed int, p []api.Entity) ssa.Program {
 	return f
 }
 
-// numbers makes tuples, items, and other calls of some instructions.
+// numbers makes tuples and other calls of some instructions, and conditions of most branches that are Bools.
 func numbers(f ssa.Func, pick func(int) int) ssa.Func {
+	next := len(f.Params)
+	change := func(x *ssa.Ins) {
+		next = max(next, x.Result+1)
+		switch {
+		case x.Op == ssa.Native && pick(3) == 0:
+			x.Op, x.Text = ssa.Tuple, ""
+		case x.Op == ssa.Native && pick(3) > 0:
+			x.Op, x.Text = ssa.Call, []string{"add", "lt", "eq", "sub"}[pick(4)]
+		case x.Op == ssa.Call && len(x.Args) == 2 && pick(2) == 0:
+			x.Text = []string{"add", "eq", "add_partial"}[pick(3)]
+		case x.Op == ssa.Send:
+			x.Args[0] = 0 // often an actor: the receiver
+		}
+	}
 	for b := range f.Blocks {
 		for i := range f.Blocks[b].Ins {
-			x := &f.Blocks[b].Ins[i]
-			switch {
-			case x.Op == ssa.Native && pick(3) == 0:
-				x.Op, x.Text = ssa.Tuple, ""
-			case x.Op == ssa.Native && pick(3) > 0:
-				x.Op, x.Text = ssa.Call, []string{"add", "lt", "eq", "sub"}[pick(4)]
-			case x.Op == ssa.Call && len(x.Args) == 2 && pick(2) == 0:
-				x.Text = []string{"add", "eq"}[pick(2)]
-			}
+			change(&f.Blocks[b].Ins[i])
 		}
+		change(&f.Blocks[b].End.Call)
+	}
+	for b := range f.Blocks {
+		x := &f.Blocks[b]
+		if x.End.Kind != ssa.Branch || pick(9) == 0 {
+			continue
+		}
+		v := x.End.Args[0]
+		asks := []ssa.Ins{{Op: ssa.Is, Args: []int{v, v}}, {Op: ssa.Is, Args: []int{v, 0}}, {Op: ssa.Fits, Args: []int{v}, Type: flows.Number}}[pick(3)]
+		asks.Result = next
+		x.Ins = append(x.Ins, asks)
+		x.End.Args = []int{next}
+		next++
 	}
 	return f
 }
@@ -217,7 +236,7 @@ func TestForms(t *testing.T) {
 			t.Fatalf("seed %d: %v, not %v\n%s\nnot\n%s\n%s\n%s", seed, end2, end, dump(got), dump(want), s, text)
 		}
 	}
-	if ends[meaning.Rest] < 100 || ends[meaning.Stuck] < 300 || sends < 40 || cells < 5000 {
+	if ends[meaning.Rest] < 100 || ends[meaning.Stuck] < 300 || sends < 20 || cells < 5000 {
 		t.Errorf("%v, %d sends, %d objects", ends, sends, cells)
 	}
 }

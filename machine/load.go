@@ -12,12 +12,11 @@ import (
 	"hackamore/world"
 )
 
-// function is a function that can be run: its instructions, by their indices, and the index of the one that begins with a word. Of each instruction that is a safe point lost are the registers that its map does not have.
+// function is a function that can be run: its instructions, by their indices, and the index of the one that begins with a word.
 type function struct {
 	code.Function
 	ins    []code.Ins
 	places []int
-	lost   [][]int
 }
 
 // arithmetic is what a text of an arith says: the type, the method, and the kinds of what it takes.
@@ -44,6 +43,10 @@ func load(c code.Program, o Options) (*machine, api.Errno) {
 	if _, e := verify.Check(c); e != api.OK {
 		return nil, e
 	}
+	return newMachine(c, o), api.OK
+}
+
+func newMachine(c code.Program, o Options) *machine {
 	m := &machine{Program: c, Options: o, entities: firsts(c.Entities), selectors: firsts(c.Selectors), named: map[string]int{}, do: instructions()}
 	for i, f := range c.Functions {
 		m.functions = append(m.functions, functionOf(f))
@@ -52,7 +55,7 @@ func load(c code.Program, o Options) (*machine, api.Errno) {
 	for _, s := range c.Texts {
 		m.arithmetic = append(m.arithmetic, arithmeticOf(s))
 	}
-	return m, api.OK
+	return m
 }
 
 // firsts returns the indices of the first ones of equal texts.
@@ -66,18 +69,9 @@ func firsts(l []string) map[string]int {
 
 func functionOf(f code.Function) function {
 	l, _, _ := code.All(f.Words)
-	out := function{f, l, make([]int, len(f.Words)), make([][]int, len(l))}
-	maps := map[int][]int{}
-	for _, m := range f.Maps {
-		maps[m.At] = m.Live
-	}
+	out := function{f, l, make([]int, len(f.Words))}
 	for i, x := range l {
 		out.places[x.At] = i
-		for r, class := range f.Classes {
-			if code.Safe(x) && class == code.Any && !slices.Contains(maps[x.At], r) {
-				out.lost[i] = append(out.lost[i], r)
-			}
-		}
 	}
 	return out
 }
@@ -106,11 +100,10 @@ func arithmeticOf(text string) arithmetic {
 // method returns the function by which values of a type do what a selector asks for; -1, if the runtime gives it.
 func (m *machine) method(typ, selector string) int {
 	i, ok := m.entities[typ]
-	s, ok2 := m.selectors[selector]
-	if !ok || !ok2 {
+	if !ok {
 		return -1
 	}
-	return colour.Lookup(m.Vector, m.Offsets, m.Colours, i, s)
+	return colour.Lookup(m.Vector, m.Offsets, m.Colours, i, m.selectors[selector])
 }
 
 // newRun returns a run for an actor.

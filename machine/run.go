@@ -1,7 +1,11 @@
 package machine
 
 import (
+	"cmp"
+	"slices"
+
 	"hackamore/api"
+	"hackamore/code"
 	"hackamore/meaning"
 	"hackamore/world"
 )
@@ -218,7 +222,14 @@ func (r *run) lose(a *activation) {
 	if !r.Poison {
 		return
 	}
-	for _, n := range a.lost[a.next] {
-		a.registers[n] = register{}
+	at := a.ins[a.next].At
+	var live []int
+	if n, ok := slices.BinarySearchFunc(a.Maps, at, func(m code.Map, at int) int { return cmp.Compare(m.At, at) }); ok {
+		live = a.Maps[n].Live
+	}
+	for n, class := range a.Classes {
+		if _, isKept := slices.BinarySearch(live, n); class == code.Any && !isKept {
+			a.registers[n] = register{}
+		}
 	}
 }

@@ -93,7 +93,7 @@ func TestStep(t *testing.T) {
 		used int
 	}{
 		{api.Message{From: 1, To: 2, Name: "go", Args: []api.Value{u8(1)}}, meaning.End{Actor: -1}, 3}, {api.Message{From: 1, To: 2, Name: "go"}, stuck(2, api.ErrSize), 1}, {api.Message{From: 1, To: 2, Name: "far"}, stuck(2, world.ErrMethod), 1}, {api.Message{From: 1, To: 2, Name: "nope"}, stuck(2, world.ErrMethod), 1}, {api.Message{From: 1, To: 2, Name: "print", Args: []api.Value{u8(1)}}, stuck(2, world.ErrMethod), 1}, {api.Message{From: 1, To: 2, Name: "create", Args: []api.Value{u8(1)}}, stuck(2, api.ErrState), 2},
-		{api.Message{From: 1, To: 0, Name: "print", Args: []api.Value{u8(1)}}, stuck(0, api.ErrType), 1}, {api.Message{From: 1, To: 0, Name: "print"}, stuck(0, api.ErrSize), 1}, {api.Message{From: 1, To: 0, Name: "nope"}, stuck(0, world.ErrMethod), 1}, {api.Message{From: 1, To: 1, Name: "create", Args: []api.Value{object(1)}}, stuck(1, api.ErrSize), 1},
+		{api.Message{From: 1, To: 0, Name: "print", Args: []api.Value{u8(1)}}, stuck(0, api.ErrType), 1}, {api.Message{From: 1, To: 0, Name: "print"}, stuck(0, api.ErrSize), 1}, {api.Message{From: 1, To: 0, Name: "nope"}, stuck(0, world.ErrMethod), 1}, {api.Message{From: 1, To: 1, Name: "create", Args: []api.Value{object(1)}}, stuck(1, api.ErrSize), 1}, {api.Message{From: 1, To: 1, Name: "create", Args: []api.Value{object(1), object(1)}}, stuck(1, api.ErrSize), 1},
 	} {
 		w := prepared(t)
 		if e := w.Send(x.m); e != api.OK {

@@ -20,10 +20,9 @@ func (q *queue) Pop() any {
 	return x
 }
 
-// settle visits all that are marked, and again those that a visit names, until none is left. What a visit names is one of those that are marked, or the number behind the last one, which is not visited.
+// settle visits all that are marked, and again those that a visit names, until none is left.
 func settle(marked []bool, visit func(i int, again func(int))) {
-	q := &queue{waits: make([]bool, len(marked)+1)}
-	q.waits[len(marked)] = true
+	q := &queue{waits: make([]bool, len(marked))}
 	again := func(i int) {
 		if !q.waits[i] {
 			q.waits[i] = true

@@ -46,18 +46,18 @@ func (s *Set) List() []int {
 	return l
 }
 
-// way is where an instruction can lead, and whether it has written its register on this way.
+// way is where an instruction can lead, and whether it has certainly written its register then: where it goes on with an error it has not.
 type way struct {
 	to    int
 	wrote bool
 }
 
-// Flow is the code of a function that code.Check takes: its instructions, by their indices, and which of them are reached.
+// Flow is the code of a function that code.Check takes: its instructions, by their indices, and which of them are reached. What is said of registers holds for functions that do not run over their end.
 type Flow struct {
 	Ins     []code.Ins
 	Reached []bool
 	ways    [][]way
-	from    [][]int // the reached instructions that lead to each one
+	from    [][]int // the reached instructions that lead to each one, and to the end
 }
 
 // Of returns the flow of words.
@@ -70,24 +70,12 @@ func Of(words []uint32) *Flow {
 	places[len(words)] = len(l)
 	f := &Flow{l, make([]bool, len(l)), make([][]way, len(l)), make([][]int, len(l)+1)}
 	for i, x := range l {
-		f.ways[i] = waysOf(x, places)
+		for _, at := range code.Next(x) {
+			f.ways[i] = append(f.ways[i], way{places[at], at != x.Raised})
+		}
 	}
 	f.reach()
 	return f
-}
-
-// waysOf returns the ways from an instruction. If it goes on with an error where it also goes on without one, these are two.
-func waysOf(x code.Ins, places []int) []way {
-	var l []way
-	for _, at := range code.Next(x) {
-		if isRaised := at == x.Raised && at != x.At+x.Length; !isRaised {
-			l = append(l, way{places[at], true})
-		}
-	}
-	if x.Raised >= 0 {
-		l = append(l, way{places[x.Raised], false})
-	}
-	return l
 }
 
 // reach finds the instructions that are reached.
@@ -118,9 +106,9 @@ func (f *Flow) Ways(i int) iter.Seq2[int, bool] {
 	}
 }
 
-// Values returns the registers that have values ahead of each instruction that is reached: those that have them on all ways, where the first ones have them ahead of all else. (The last set is that of the end.)
+// Values returns the registers that have values ahead of each instruction that is reached: those that have them on all ways, where the first ones have them ahead of all else.
 func (f *Flow) Values(all, first Set) []Set {
-	ahead := slices.Repeat([]Set{all}, len(f.Ins)+1)
+	ahead := slices.Repeat([]Set{all}, len(f.Ins))
 	ahead[0] = first
 	settle(f.Reached, func(i int, again func(int)) {
 		_, writes := code.Uses(f.Ins[i])
@@ -139,10 +127,10 @@ func (f *Flow) Values(all, first Set) []Set {
 	return ahead
 }
 
-// Needed returns the registers that are needed ahead of each instruction that is reached, and, last, at the end: none.
+// Needed returns the registers that are needed ahead of each instruction that is reached.
 func (f *Flow) Needed() []Set {
 	last := len(f.Ins) - 1
-	needed := make([]Set, len(f.Ins)+1)
+	needed := make([]Set, len(f.Ins))
 	reached := slices.Clone(f.Reached)
 	slices.Reverse(reached) // from the last one to the first
 	settle(reached, func(n int, again func(int)) {
