@@ -45,16 +45,21 @@ func isKind(n int) bool {
 
 // Classes returns the classes of the registers that a value of a shape needs.
 func Classes(s Shape) []int {
-	if len(s.Kids) == 0 {
-		if isKind(s.Kind) {
-			return []int{code.Num}
-		}
-		return []int{code.Any}
-	}
 	var l []int
-	for _, k := range s.Kids {
-		l = append(l, Classes(k)...)
+	var walk func(s Shape)
+	walk = func(s Shape) {
+		switch {
+		case len(s.Kids) > 0:
+			for _, k := range s.Kids {
+				walk(k)
+			}
+		case isKind(s.Kind):
+			l = append(l, code.Num)
+		default:
+			l = append(l, code.Any)
+		}
 	}
+	walk(s)
 	return l
 }
 

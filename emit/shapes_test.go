@@ -139,6 +139,13 @@ func TestClasses(t *testing.T) {
 			t.Errorf("%d: %v, not %v", i, got, c.want)
 		}
 	}
+	deep := Shape{Kind: 1}
+	for range 60000 {
+		deep = Shape{Kids: []Shape{{}, deep}}
+	}
+	if l := Classes(deep); len(l) != 60001 || l[0] != code.Any || l[60000] != code.Num {
+		t.Errorf("%d classes", len(l))
+	}
 }
 
 // TestArith asks for all methods of all kinds.

@@ -67,7 +67,7 @@ func (r *run) unbox(a *activation, x *code.Ins) {
 }
 
 func (r *run) arith(a *activation, x *code.Ins) {
-	m := r.arithmetic[x.Index[0]]
+	m := r.meaningOf(r.Texts[x.Index[0]])
 	one, two := a.bits(x.B), a.bits(x.C)
 	if !m.ok {
 		wrong(ErrKind)

@@ -19,22 +19,22 @@ type function struct {
 	places []int
 }
 
-// arithmetic is what a text of an arith says: the type, the method, and the kinds of what it takes.
+// arithmetic is what the text of an arith says: the type, the method, and the kinds of what it takes.
 type arithmetic struct {
 	typ, method string
 	kinds       [2]int
 	ok          bool
 }
 
-// machine is code that can be run.
+// machine is code that can be run. What is known of functions and texts is found when they are first needed.
 type machine struct {
 	code.Program
 	Options
-	functions  []function
+	functions  []*function
 	entities   map[string]int // the first ones with a name
 	selectors  map[string]int
 	named      map[string]int // functions: the last ones with a name
-	arithmetic []arithmetic   // of each text
+	arithmetic map[string]arithmetic
 	do         [code.Ops]instruction
 }
 
@@ -47,15 +47,29 @@ func load(c code.Program, o Options) (*machine, api.Errno) {
 }
 
 func newMachine(c code.Program, o Options) *machine {
-	m := &machine{Program: c, Options: o, entities: firsts(c.Entities), selectors: firsts(c.Selectors), named: map[string]int{}, do: instructions()}
+	m := &machine{c, o, make([]*function, len(c.Functions)), firsts(c.Entities), firsts(c.Selectors), map[string]int{}, map[string]arithmetic{}, instructions()}
 	for i, f := range c.Functions {
-		m.functions = append(m.functions, functionOf(f))
 		m.named[f.Name] = i
 	}
-	for _, s := range c.Texts {
-		m.arithmetic = append(m.arithmetic, arithmeticOf(s))
-	}
 	return m
+}
+
+// function returns a function by its index.
+func (m *machine) function(n int) *function {
+	if m.functions[n] == nil {
+		m.functions[n] = functionOf(m.Functions[n])
+	}
+	return m.functions[n]
+}
+
+// meaningOf returns what the text of an arith says.
+func (m *machine) meaningOf(text string) arithmetic {
+	a, ok := m.arithmetic[text]
+	if !ok {
+		a = arithmeticOf(text)
+		m.arithmetic[text] = a
+	}
+	return a
 }
 
 // firsts returns the indices of the first ones of equal texts.
@@ -67,9 +81,9 @@ func firsts(l []string) map[string]int {
 	return out
 }
 
-func functionOf(f code.Function) function {
+func functionOf(f code.Function) *function {
 	l, _, _ := code.All(f.Words)
-	out := function{f, l, make([]int, len(f.Words))}
+	out := &function{f, l, make([]int, len(f.Words))}
 	for i, x := range l {
 		out.places[x.At] = i
 	}

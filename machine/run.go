@@ -131,7 +131,7 @@ func (r *run) message() result {
 
 // begin begins a function, above those that are being run.
 func (r *run) begin(n int, values []api.Value) {
-	f := &r.functions[n]
+	f := r.function(n)
 	if len(values) != f.Params {
 		wrong(api.ErrSize)
 	}
